@@ -1,0 +1,1 @@
+"""Seaplace: nodes placed among the deeds of a program."""
