@@ -28,7 +28,7 @@ LOOPED = (
     ),
 )
 
-# Nothing but an end, and no node.
+# No node at all, and a block that is a loop by itself.
 LEAST = ((("only", (), ("goto", "next")), ("next", (), ("goto", "next"))), ())
 
 

@@ -7,7 +7,8 @@ from pathlib import Path
 
 def main():
     """0 if all tests hold, else 1."""
-    sys.path.insert(0, str(Path(__file__).resolve().parent.parent))
+    # In the place of this file's folder, whose tests may be called as those of another one.
+    sys.path[0] = str(Path(__file__).resolve().parent.parent)
     folder = sys.argv[1]
     suite = unittest.TestLoader().discover(folder, pattern="test_*.py", top_level_dir=folder)
     result = unittest.TextTestRunner(verbosity=1).run(suite)

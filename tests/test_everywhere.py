@@ -1,0 +1,123 @@
+"""What holds of every function: nothing is changed, arguments go by names, the graph is refused ahead."""
+
+import copy
+import inspect
+import unittest
+from importlib import import_module
+
+from making import LOOPED
+from odd import CALLS, odd_things
+
+from seaplace.errors import BadGraph, GraphError, MissError
+from seaplace.graphs import is_graph
+from seaplace.graphtext import read_graph
+
+INTERFACE = {
+    "words": {
+        "is_whole": "(thing)", "is_among": "(thing, least, most)", "is_name": "(thing)",
+        "is_word": "(thing, *, most=65535)", "number_of": "(word)", "words_of": "(row)",
+    },
+    "graphs": {
+        "is_graph": "(thing)", "need_graph": "(graph)", "names_of": "(graph)", "block_of": "(graph, name)",
+        "node_of": "(graph, node)", "ways_of": "(graph, name)", "predecessors": "(graph, name)",
+        "inputs_of": "(graph, node)", "slots_of": "(graph)", "is_slot": "(graph, thing)", "live_nodes": "(graph)",
+        "floating_nodes": "(graph)", "fixed_uses": "(graph)",
+    },
+    "graphtext": {"graph_text": "(graph)", "read_graph": "(text)"},
+    "flow": {"edges": "(graph)", "shortest_path": "(graph, one, other, *, without=())"},
+    "dominators": {
+        "dominators": "(graph)", "dominates": "(graph, slot, other)", "chain": "(graph, slot)",
+        "meet": "(graph, slots)", "above": "(graph, block)",
+    },
+    "treepaper": {"tree_paper": "(graph)", "check_tree": "(graph, paper)"},
+    "joins": {"frontier": "(graph, block)", "joins": "(graph, blocks)"},
+    "joinpaper": {"join_paper": "(graph, blocks)", "check_joins": "(graph, blocks, paper)"},
+    "loops": {"loops": "(graph)", "depth_of": "(graph, block)", "is_reducible": "(graph)"},
+    "versions": {
+        "new_heads": "(graph, region)", "versions": "(graph, region)", "current": "(graph, region, slot)",
+    },
+    "guards": {"guards_of": "(graph, node)", "is_guarded": "(graph, node, slot)"},
+}
+
+
+def lists_within(thing):
+    """All lists and dicts in a thing."""
+    found = []
+    if isinstance(thing, (list, dict)):
+        found.append(thing)
+    if isinstance(thing, (list, tuple, dict)):
+        for part in thing.values() if isinstance(thing, dict) else thing:
+            found.extend(lists_within(part))
+    return found
+
+
+class Everywhere(unittest.TestCase):
+    def test_interface(self):
+        for stem, told in INTERFACE.items():
+            module = import_module("seaplace." + stem)
+            for name, arguments in told.items():
+                function = getattr(module, name)
+                self.assertEqual(function.__module__, "seaplace." + stem)
+                self.assertEqual(str(inspect.signature(function)), arguments)
+
+    def test_every_function_is_called(self):
+        called = {call[0].__name__ for call in CALLS} | {"is_graph", "read_graph"}
+        told = {name for stem, names in INTERFACE.items() if stem != "words" for name in names}
+        self.assertEqual(called, told)
+
+    def test_by_place_and_by_name(self):
+        for function, names, things in CALLS:
+            named = dict(zip(names, things))
+            self.assertEqual(function(*things), function(**named))
+
+    def test_nothing_is_changed(self):
+        for function, _, things in CALLS:
+            ahead = copy.deepcopy(things)
+            function(*things)
+            self.assertEqual(things, ahead)
+
+    def test_what_is_told_is_the_askers_own(self):
+        for function, _, things in CALLS:
+            told = function(*things)
+            kept = copy.deepcopy(told)
+            again = function(*things)
+            handed = [id(one) for one in lists_within(things)]
+            self.assertFalse({id(one) for one in lists_within(told)} & {id(one) for one in lists_within(again)})
+            self.assertFalse({id(one) for one in lists_within(told)} & set(handed))
+            for one in lists_within(told):
+                one.clear()
+            self.assertEqual(again, kept)
+            self.assertEqual(function(*things), kept)
+
+    def test_what_is_no_graph_is_refused_ahead(self):
+        for function, _, things in CALLS:
+            for thing in odd_things():
+                self.assertIs(is_graph(thing), False)
+                with self.assertRaises(BadGraph):
+                    function(thing, *things[1:])
+                with self.assertRaises(BadGraph):
+                    function(thing, *[thing for _ in things[1:]])
+            with self.assertRaises(BadGraph) as caught:
+                function(([LOOPED[0]], LOOPED[1]), *[None for _ in things[1:]])
+            self.assertEqual((caught.exception.part, caught.exception.number), ("blocks", None))
+
+    def test_of_anything(self):
+        # Whatever is handed in beside the graph is answered, or refused by a class of this package.
+        for function, _, things in CALLS:
+            for place in range(1, len(things)):
+                for thing in odd_things() + [0, 1, "top", ("top", 0), ["top"], ("top",), (("top", 0),)]:
+                    told = list(things)
+                    told[place] = thing
+                    try:
+                        function(*told)
+                    except (GraphError, MissError):
+                        pass
+
+    def test_texts_and_questions_of_anything(self):
+        for thing in odd_things():
+            with self.assertRaises(GraphError):
+                read_graph(thing)
+
+
+if __name__ == "__main__":
+    unittest.main()
