@@ -33,30 +33,23 @@ def open_from(arcs, used, here):
 
 
 def more_steps(arcs, used, source, sink):
-    """The steps of one way more from source to sink, or None where there is none."""
+    """The steps of one way more from source to sink."""
     came = {source: None}
     rows = [source]
-    at = 0
-    while at < len(rows) and sink not in came:
-        here = rows[at]
-        at += 1
+    while sink not in came:
+        here = rows.pop()
         for there in open_from(arcs, used, here):
             if there not in came:
                 came[there] = here
                 rows.append(there)
-    if sink not in came:
-        return None
     return way_back(came, sink)
 
 
 def two_routes(arcs, source, sink):
-    """Two routes from source to sink, a list, that have no arc in common; None where there aren't two."""
+    """Two routes from source to sink, a list, that have no arc in common, where there are two."""
     used = {}
     for _ in range(2):
-        steps = more_steps(arcs, used, source, sink)
-        if steps is None:
-            return None
-        for one, other in steps:
+        for one, other in more_steps(arcs, used, source, sink):
             if (other, one) in used:
                 del used[(other, one)]
             else:
@@ -88,22 +81,17 @@ def path_along(route):
 
 
 def two_paths(ways, starts, end):
-    """Two paths of two blocks or more from unlike starts to the end, with no block in common but that one, or None."""
+    """Two paths from unlike starts, of two blocks or more, that join at the end and have no other block in common."""
     arcs = split_arcs(ways, end)
     # A path may begin at the end itself: then it goes out of it at first, and comes into it at last.
     source = ("", 0)
     arcs[source] = [(name, int(name == end)) for name in ways if name in starts]
-    routes = two_routes(arcs, source, (end, 0))
-    if routes is None:
-        return None
-    return tuple([path_along(route) for route in routes])
+    return tuple([path_along(route) for route in two_routes(arcs, source, (end, 0))])
 
 
 def two_ways(ways, start, end):
-    """Two paths from a start to another block, with no block in common but these two, or None."""
+    """Two paths from a block's dominator to it that have no block in common but these two."""
     if end in ways[start]:
         return ((start, end), (start, end))
     routes = two_routes(split_arcs(ways, end), (start, 1), (end, 0))
-    if routes is None:
-        return None
     return tuple([(start, *path_along(route)) for route in routes])

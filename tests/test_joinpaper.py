@@ -109,6 +109,12 @@ class JoinPapers(unittest.TestCase):
         )
         for row in wrong:
             self.refused(((MEETINGS[0], row), BRINGS), ("meeting", 1), ("right", "head"))
+        # Of a path there must be two blocks, though both of its ends be such; and not both may begin at their end.
+        self.refused(((MEETINGS[0], ("foot", ("foot",), other)), BRINGS), ("meeting", 1), ("right", "head", "foot"))
+        around = (("next", ("next", "next"), ("next", "next")),)
+        self.refused((around, ()), ("meeting", 0), ("next",), LEAST)
+        for path in (("nowhere", "foot"), ("nowhere",), ("right", "nowhere", "foot"), ("right", "nowhere")):
+            self.refused(((MEETINGS[0], ("foot", one, path)), BRINGS), ("meeting", 1), ("right", "head"))
         # Where head isn't one of the blocks, no path may begin there.
         self.refused((MEETINGS, BRINGS), ("meeting", 1), ("right",))
 
@@ -156,6 +162,9 @@ class JoinPapers(unittest.TestCase):
         self.refused((MEETINGS, (("head", "top"), *BRINGS)), ("bring", 0), blocks)
         self.refused((MEETINGS, (["left", "head"], right, done)), ("bring", 0), blocks)
         self.refused((MEETINGS, (left, (*right, "head"), done)), ("bring", 1), blocks)
+        self.refused((MEETINGS, (left, ("right",), done)), ("bring", 1), blocks)
+        self.refused((MEETINGS, (left, ("right", "nowhere"))), ("bring", 1), blocks)
+        self.refused((MEETINGS, (("left", "top"), ("right", "nowhere"), done)), ("bring", 1), blocks)
 
     def test_another_one_is_brought(self):
         blocks = ("right", "head")

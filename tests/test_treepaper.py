@@ -93,7 +93,8 @@ class TreePapers(unittest.TestCase):
             ("foot", "top", ("left", "foot"), foot[3]), ("foot", "top", ("top", "left"), foot[3]),
             ("foot", "left", foot[2], foot[3]), ("foot", "nowhere", foot[2], foot[3]),
             ("foot", "top", ("top", "left", "right", "foot"), foot[3]), ("foot", None, foot[2], foot[3]),
-            ("foot", "top", (*foot[2], "foot"), foot[3]), left, ("top", "top", ("top",), ("top",)),
+            ("foot", "top", (*foot[2], "foot"), foot[3]), ("foot", "top", ("nowhere", "foot"), foot[3]),
+            ("foot", "nowhere", ("nowhere", "foot"), ("nowhere", "foot")), ("foot", "top", foot[2], ("nowhere",)), left, ("top", "top", ("top",), ("top",)),
         )
         for row in wrong:
             self.refused(diamond(), [left, right, row], 2)
