@@ -47,7 +47,7 @@ def read_rows(rows, first):
                 name = None
             else:
                 deeds.append(thing)
-        elif words[0] == "node":
+        elif words[0] == "node" and blocks:
             nodes.append(read_thing(words[1:], NODE_WORDS, number, 1))
         elif nodes:
             raise BadRow(number, 1)

@@ -99,6 +99,15 @@ class Texts(unittest.TestCase):
         self.bad_row("block a\nreturn 0\nnode node word 1", 3, 2)
         self.bad_row("block a\nreturn 0\nnode Word 1", 3, 2)
 
+    def test_a_node_row_ahead_of_all_blocks(self):
+        for row in ("node word 0", "node word x", "node", "node add 0", "node phi a 0 0", "node block a"):
+            self.bad_row(row, 1, 1)
+            self.bad_row(row + "\nblock a\nreturn 0\nnode word 1", 1, 1)
+            self.bad_row(row + "\n " + row, 1, 1)
+        self.bad_row("node  word 0", 1, 0)
+        self.bad_row("node ", 1, 0)
+        self.bad_row("nodes word 0", 1, 1)
+
     def test_words_of_a_block(self):
         self.bad_row("block", 1, 2)
         self.bad_row("block A", 1, 2)
@@ -145,7 +154,6 @@ class Texts(unittest.TestCase):
 
     def test_no_graph(self):
         self.bad_graph("block a\nreturn 0", "blocks", 0)
-        self.bad_graph("node word 0", "blocks", None)
         self.bad_graph("block a\nreturn 1\nnode word 1", "blocks", 0)
         self.bad_graph("block a\nstore 2 0 0\nreturn 0\nnode word 1", "blocks", 0)
         self.bad_graph("block a\nreturn 0\nblock a\nreturn 0\nnode word 1", "blocks", 1)
