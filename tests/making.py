@@ -28,6 +28,60 @@ LOOPED = (
     ),
 )
 
+# A sound graph like that one: the word that is divided by is checked where its quotient is put out.
+STEADY = (
+    (
+        ("top", (("store", 0, 0, 1),), ("goto", "head")),
+        ("head", (), ("if", 3, "left", "right")),
+        ("left", (("check", 4), ("store", 0, 2, 4)), ("goto", "foot")),
+        ("right", (("out", 7),), ("goto", "foot")),
+        ("foot", (), ("if", 5, "head", "done")),
+        ("done", (("out", 2), ("check", 3), ("store", 1, 2, 3), ("out", 6), ("out", 2)), ("return", 2)),
+    ),
+    (
+        ("word", 0),
+        ("given", 0),
+        ("phi", "head", (0, 5)),
+        ("less", 2, 1),
+        ("load", 0, 2, ("head", 0)),
+        ("add", 2, 8),
+        ("div", 1, 3),
+        ("pick", 3, 2, 1),
+        ("word", 1),
+        ("mul", 1, 1),
+    ),
+)
+STEADY_RANGES = (
+    (0, ("top", 0), ("top", 0)),
+    (3, ("head", 0), ("head", 0)),
+    (4, ("head", 0), ("left", 0)),
+    (5, ("head", 0), ("foot", 0)),
+    (6, ("done", 2), ("done", 3)),
+    (7, ("head", 0), ("right", 0)),
+    (8, ("top", 0), ("foot", 0)),
+)
+
+# Twelve blocks in a row with five deeds each, and forty nodes each of which asks for the one ahead: almost all of them
+# may stand almost everywhere.
+TALL = (
+    (
+        *[(name, (("out", 0),) * 5, ("goto", after)) for name, after in zip(NAMES, NAMES[1:])],
+        (NAMES[-1], (("out", 0),) * 5, ("return", 39)),
+    ),
+    (("word", 1), *[(("add", "mul", "div")[node % 3], node, 0) for node in range(39)]),
+)
+
+# Nothing floats.
+BARE = (
+    (
+        ("top", (("out", 0),), ("if", 0, "side", "loop")),
+        ("side", (), ("goto", "loop")),
+        ("loop", (("check", 1),), ("if", 1, "loop", "last")),
+        ("last", (), ("return", 1)),
+    ),
+    (("given", 0), ("phi", "loop", (0, 0, 1))),
+)
+
 # No node at all, and a block that is a loop by itself.
 LEAST = ((("only", (), ("goto", "next")), ("next", (), ("goto", "next"))), ())
 

@@ -1,7 +1,9 @@
 """Things of all kinds, and calls of every function that takes graphs."""
 
-from making import LOOPED
+from making import LOOPED, STEADY
 
+from seaplace.cheapest import cheapest, pinned_cost, pinned_ranges
+from seaplace.costs import cost_of, cost_parts, default_profile, held_slots
 from seaplace.dominators import above, chain, dominates, dominators, meet
 from seaplace.flow import edges, shortest_path
 from seaplace.graphs import (
@@ -13,6 +15,13 @@ from seaplace.guards import guards_of, is_guarded
 from seaplace.joinpaper import check_joins, join_paper
 from seaplace.joins import frontier, joins
 from seaplace.loops import depth_of, is_reducible, loops
+from seaplace.placements import (
+    count_placements, does_fit, early_placement, is_placement, late_placement, legal_placements, need_placement,
+    nth_placement, place_number,
+)
+from seaplace.rangepaper import check_ranges, range_paper
+from seaplace.ranges import earliest, is_sound, latest, need_sound, order_of, ranges
+from seaplace.tollcheck import check_tolls, toll_bound, toll_paper
 from seaplace.treepaper import check_tree, tree_paper
 from seaplace.versions import current, new_heads, versions
 
@@ -34,6 +43,8 @@ def odd_things():
         ((("top", (), ("return", True)),), (("word", 1),)), object(), frozenset(("top",)), range(3), len, int,
     ]
 
+
+EARLY = early_placement(STEADY)
 
 # Each function, good things to hand in, and by what names.
 CALLS = (
@@ -71,4 +82,45 @@ CALLS = (
     (current, ("graph", "region", "slot"), (LOOPED, 0, ("done", 3))),
     (guards_of, ("graph", "node"), (LOOPED, 3)),
     (is_guarded, ("graph", "node", "slot"), (LOOPED, 3, ("left", 0))),
+    (order_of, ("graph",), (LOOPED,)),
+    (earliest, ("graph", "node"), (LOOPED, 4)),
+    (latest, ("graph", "node"), (LOOPED, 6)),
+    (ranges, ("graph",), (LOOPED,)),
+    (is_sound, ("graph",), (LOOPED,)),
+    (need_sound, ("graph",), (STEADY,)),
+    (does_fit, ("graph", "placement", "node"), (STEADY, EARLY, 5)),
+    (need_placement, ("graph", "placement"), (STEADY, EARLY)),
+    (is_placement, ("graph", "placement"), (STEADY, EARLY)),
+    (early_placement, ("graph",), (STEADY,)),
+    (late_placement, ("graph",), (STEADY,)),
+    (legal_placements, ("graph",), (STEADY,)),
+    (count_placements, ("graph",), (STEADY,)),
+    (nth_placement, ("graph", "number"), (STEADY, 40)),
+    (place_number, ("graph", "placement"), (STEADY, late_placement(STEADY))),
+    (range_paper, ("graph",), (STEADY,)),
+    (check_ranges, ("graph", "paper"), (STEADY, range_paper(STEADY))),
+    (default_profile, ("graph",), (STEADY,)),
+    (held_slots, ("graph", "placement", "node"), (STEADY, EARLY, 1)),
+    (cost_parts, ("graph", "placement"), (STEADY, EARLY)),
+    (cost_of, ("graph", "placement"), (STEADY, EARLY)),
+    (pinned_ranges, ("graph", "pins"), (STEADY, ((8, ("head", 0)),))),
+    (cheapest, ("graph",), (STEADY,)),
+    (pinned_cost, ("graph", "node", "slot"), (STEADY, 8, ("head", 0))),
+    (toll_paper, ("graph",), (STEADY,)),
+    (toll_bound, ("graph", "tolls"), (STEADY, toll_paper(STEADY)[1])),
+    (check_tolls, ("graph", "paper"), (STEADY, toll_paper(STEADY))),
+)
+
+# Functions with arguments that are handed in by their names alone, and such arguments.
+PRICED = {"profile": default_profile(STEADY), "hold": 3}
+NAMED = (
+    (legal_placements, (STEADY,), {"most": 60}),
+    (count_placements, (STEADY,), {"most": 60}),
+    (cost_parts, (STEADY, EARLY), PRICED),
+    (cost_of, (STEADY, EARLY), PRICED),
+    (cheapest, (STEADY,), {**PRICED, "pins": ((8, ("head", 0)),), "early": True}),
+    (pinned_cost, (STEADY, 8, ("head", 0)), PRICED),
+    (toll_paper, (STEADY,), PRICED),
+    (toll_bound, (STEADY, ()), PRICED),
+    (check_tolls, (STEADY, toll_paper(STEADY, **PRICED)), PRICED),
 )

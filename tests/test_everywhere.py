@@ -6,9 +6,9 @@ import unittest
 from importlib import import_module
 
 from making import LOOPED
-from odd import CALLS, odd_things
+from odd import CALLS, NAMED, odd_things
 
-from seaplace.errors import BadGraph, GraphError, MissError
+from seaplace.errors import BadGraph, GraphError, MissError, UnsoundError
 from seaplace.graphs import is_graph
 from seaplace.graphtext import read_graph
 
@@ -37,6 +37,30 @@ INTERFACE = {
         "new_heads": "(graph, region)", "versions": "(graph, region)", "current": "(graph, region, slot)",
     },
     "guards": {"guards_of": "(graph, node)", "is_guarded": "(graph, node, slot)"},
+    "ranges": {
+        "order_of": "(graph)", "earliest": "(graph, node)", "latest": "(graph, node)", "ranges": "(graph)",
+        "is_sound": "(graph)", "need_sound": "(graph)",
+    },
+    "placements": {
+        "does_fit": "(graph, placement, node)", "need_placement": "(graph, placement)",
+        "is_placement": "(graph, placement)", "early_placement": "(graph)", "late_placement": "(graph)",
+        "legal_placements": "(graph, *, most=2000)", "count_placements": "(graph, *, most=2000)",
+        "nth_placement": "(graph, number)", "place_number": "(graph, placement)",
+    },
+    "rangepaper": {"range_paper": "(graph)", "check_ranges": "(graph, paper)"},
+    "costs": {
+        "default_profile": "(graph)", "held_slots": "(graph, placement, node)",
+        "cost_parts": "(graph, placement, *, profile=None, hold=1)",
+        "cost_of": "(graph, placement, *, profile=None, hold=1)",
+    },
+    "cheapest": {
+        "pinned_ranges": "(graph, pins=())", "cheapest": "(graph, *, profile=None, hold=1, pins=(), early=False)",
+        "pinned_cost": "(graph, node, slot, *, profile=None, hold=1)",
+    },
+    "tollcheck": {
+        "toll_paper": "(graph, *, profile=None, hold=1)", "toll_bound": "(graph, tolls, *, profile=None, hold=1)",
+        "check_tolls": "(graph, paper, *, profile=None, hold=1)",
+    },
 }
 
 
@@ -71,23 +95,38 @@ class Everywhere(unittest.TestCase):
             self.assertEqual(function(*things), function(**named))
 
     def test_nothing_is_changed(self):
-        for function, _, things in CALLS:
-            ahead = copy.deepcopy(things)
-            function(*things)
-            self.assertEqual(things, ahead)
+        for function, things, named in self.each_call():
+            ahead = copy.deepcopy((things, named))
+            function(*things, **named)
+            self.assertEqual((things, named), ahead)
+            self.assertEqual([list(one) for one in named.values() if isinstance(one, dict)],
+                             [list(one) for one in ahead[1].values() if isinstance(one, dict)])
+
+    def each_call(self):
+        return [(function, things, {}) for function, _, things in CALLS] + list(NAMED)
+
+    def test_every_named_argument_is_handed_in(self):
+        named = {function.__name__: set(named) for function, _, named in NAMED}
+        for stem, told in INTERFACE.items():
+            for name, arguments in told.items():
+                behind = arguments.partition("*, ")[2].strip("()").split(", ") if stem != "words" else []
+                wanted = {one.partition("=")[0] for one in behind if one} - {"without", "pins"}
+                self.assertEqual(named.get(name, set()) - {"pins"}, wanted, name)
 
     def test_what_is_told_is_the_askers_own(self):
-        for function, _, things in CALLS:
-            told = function(*things)
+        for function, things, named in self.each_call():
+            told = function(*things, **named)
             kept = copy.deepcopy(told)
-            again = function(*things)
-            handed = [id(one) for one in lists_within(things)]
+            again = function(*things, **named)
+            handed = [id(one) for one in lists_within((things, named))]
+            # Each of the lists and dicts told is one by itself.
+            self.assertEqual(len({id(one) for one in lists_within(told)}), len(lists_within(told)))
             self.assertFalse({id(one) for one in lists_within(told)} & {id(one) for one in lists_within(again)})
             self.assertFalse({id(one) for one in lists_within(told)} & set(handed))
             for one in lists_within(told):
                 one.clear()
             self.assertEqual(again, kept)
-            self.assertEqual(function(*things), kept)
+            self.assertEqual(function(*things, **named), kept)
 
     def test_what_is_no_graph_is_refused_ahead(self):
         for function, _, things in CALLS:
@@ -110,8 +149,20 @@ class Everywhere(unittest.TestCase):
                     told[place] = thing
                     try:
                         function(*told)
-                    except (GraphError, MissError):
+                    except (GraphError, MissError, UnsoundError):
                         pass
+        for function, things, named in NAMED:
+            for name in named:
+                for thing in odd_things() + [0, 1, "top", ("top", 0), ["top"], ("top",), (("top", 0),)]:
+                    try:
+                        function(*things, **{**named, name: thing})
+                    except (GraphError, MissError, UnsoundError):
+                        pass
+
+    def test_named_arguments_go_by_names_alone(self):
+        for function, things, named in NAMED:
+            with self.assertRaises(TypeError):
+                function(*things, *named.values())
 
     def test_texts_and_questions_of_anything(self):
         for thing in odd_things():

@@ -13,7 +13,7 @@ BUILTINS = set(
 )
 METHODS = set(
     "append clear copy count endswith extend find get index insert items join keys pop remove replace reverse "
-    "setdefault split startswith strip update values add discard".split()
+    "setdefault split startswith strip update values add discard bit_length".split()
 )
 BARRED = set("mro elements open input law eval exec compile globals locals vars dir help id type super".split())
 STATEMENTS = (
@@ -119,12 +119,17 @@ class Language(unittest.TestCase):
             self.assertFalse((bound | set(names_told(tree))) & (set(dir(builtins)) | BARRED))
 
     def test_calls(self):
+        methods = set(METHODS)
+        for _, tree in self.each():
+            for row in tree.body:
+                if isinstance(row, ast.ClassDef):
+                    methods |= {part.name for part in row.body if isinstance(part, ast.FunctionDef)}
         for _, tree in self.each():
             own = set(names_told(tree)) | bound_within(tree)
             for thing in ast.walk(tree):
                 if isinstance(thing, ast.Call):
                     if isinstance(thing.func, ast.Attribute):
-                        self.assertIn(thing.func.attr, METHODS)
+                        self.assertIn(thing.func.attr, methods)
                     else:
                         self.assertIn(thing.func.id, own | BUILTINS)
 
