@@ -5,7 +5,7 @@ whole number in which their bits are set: so those that dominate two slots are o
 lowest of these is the highest bit.
 """
 
-from seaplace.facts import deeds_in, entry_of, live_in, reached_in, uses_in, ways_in
+from seaplace.facts import deeds_in, entry_of, live_in, predecessors_in, reached_in, uses_in, ways_in
 from seaplace.guards import guards_in
 from seaplace.parts import asked_by
 from seaplace.trees import tree_in
@@ -249,3 +249,15 @@ def reach_of(chart, stands, node):
 def steps_between(chart, high, low):
     """The slots, a list, from a high one to a low one on its chain."""
     return bits_of(chart.over[low] & chart.under[high])
+
+
+def phi_pairs(chart):
+    """A dict, by edges, of the live phis of the block to which each goes and their inputs for it, pairs, rising."""
+    found = {(name, way): [] for name, ways in ways_in(chart.graph).items() for way in ways}
+    ahead = predecessors_in(chart.graph)
+    for node in chart.live:
+        thing = chart.nodes[node]
+        if thing[0] == "phi":
+            for name, one in zip(ahead[thing[1]], thing[2]):
+                found[(name, thing[1])].append((node, one))
+    return found

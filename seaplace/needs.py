@@ -1,8 +1,9 @@
 """Refusals of what is handed in beside a good graph."""
 
-from seaplace.errors import NoBlock, NoNode, OutOfPlace
+from seaplace.errors import BadGiven, NoBlock, NoNode, OutOfPlace
 from seaplace.facts import deeds_in, has_slot, names_in
-from seaplace.words import REGIONS, is_among
+from seaplace.parts import is_tuple_of
+from seaplace.words import GIVENS, REGIONS, is_among, is_word
 
 
 def need_block(graph, name):
@@ -43,3 +44,18 @@ def need_region(thing):
     """None, or OutOfPlace of what is no region."""
     if not is_among(thing, 0, REGIONS - 1):
         raise OutOfPlace("this is no region")
+
+
+def need_most(most, greatest):
+    """None, or OutOfPlace of what is no whole number from 1 to the greatest."""
+    if not is_among(most, 1, greatest):
+        raise OutOfPlace("this is no number of so many from 1 on")
+
+
+def need_given(given):
+    """None, or BadGiven of no tuple of at most four, or of the first thing in it that is no word."""
+    if not is_tuple_of(given, 0, GIVENS):
+        raise BadGiven(None)
+    for number, word in enumerate(given):
+        if not is_word(word):
+            raise BadGiven(number)

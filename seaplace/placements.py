@@ -3,6 +3,7 @@
 from seaplace.charts import first_bit
 from seaplace.errors import BadPlacement, NoNode, OutOfPlace, TooGreat
 from seaplace.facts import has_slot
+from seaplace.needs import need_most
 from seaplace.parts import is_tuple_of
 from seaplace.ranges import chart_of, is_over_all, sound_chart, unsound_node
 from seaplace.words import MOST, is_among, is_whole
@@ -121,12 +122,6 @@ def first_stands(chart):
     if unsound_node(chart) is not None:
         return None
     return list(chart.early)
-
-
-def need_most(most, greatest):
-    """None, or OutOfPlace of what is no whole number from 1 to the greatest."""
-    if not is_among(most, 1, greatest):
-        raise OutOfPlace("this is no number of so many from 1 on")
 
 
 def all_stands(chart, most):

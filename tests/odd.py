@@ -4,6 +4,7 @@ from making import LOOPED, STEADY
 
 from seaplace.cheapest import cheapest, pinned_cost, pinned_ranges
 from seaplace.costs import cost_of, cost_parts, default_profile, held_slots
+from seaplace.demand import run, trace
 from seaplace.dominators import above, chain, dominates, dominators, meet
 from seaplace.flow import edges, shortest_path
 from seaplace.graphs import (
@@ -14,13 +15,18 @@ from seaplace.graphtext import graph_text
 from seaplace.guards import guards_of, is_guarded
 from seaplace.joinpaper import check_joins, join_paper
 from seaplace.joins import frontier, joins
+from seaplace.liveness import clash, live_at, live_points, made_at, most_live, points, rows_of
 from seaplace.loops import depth_of, is_reducible, loops
+from seaplace.placedrun import placed_trace, run_placed, speculated, work_of
 from seaplace.placements import (
     count_placements, does_fit, early_placement, is_placement, late_placement, legal_placements, need_placement,
     nth_placement, place_number,
 )
+from seaplace.profiles import counts_of, counts_of_all
 from seaplace.rangepaper import check_ranges, range_paper
 from seaplace.ranges import earliest, is_sound, latest, need_sound, order_of, ranges
+from seaplace.registers import fewest_registers, register_paper, registers_of, squeezed
+from seaplace.runpaper import check_run, run_paper
 from seaplace.tollcheck import check_tolls, toll_bound, toll_paper
 from seaplace.treepaper import check_tree, tree_paper
 from seaplace.versions import current, new_heads, versions
@@ -109,6 +115,27 @@ CALLS = (
     (toll_paper, ("graph",), (STEADY,)),
     (toll_bound, ("graph", "tolls"), (STEADY, toll_paper(STEADY)[1])),
     (check_tolls, ("graph", "paper"), (STEADY, toll_paper(STEADY))),
+    (run, ("graph", "given"), (STEADY, (2, 3))),
+    (trace, ("graph", "given"), (STEADY, (2, 3))),
+    (run_paper, ("graph", "given"), (STEADY, (2, 3))),
+    (check_run, ("graph", "paper", "given"), (STEADY, run_paper(STEADY, (2, 3)), (2, 3))),
+    (run_placed, ("graph", "placement", "given"), (STEADY, EARLY, (2, 3))),
+    (placed_trace, ("graph", "placement", "given"), (STEADY, EARLY, (2, 3))),
+    (speculated, ("graph", "placement", "given"), (STEADY, EARLY, (2, 3))),
+    (work_of, ("graph", "placement", "given"), (STEADY, EARLY, (2, 3))),
+    (counts_of, ("graph", "given"), (STEADY, (2, 3))),
+    (counts_of_all, ("graph", "givens"), (STEADY, [(2, 3), ()])),
+    (rows_of, ("graph", "placement", "block"), (STEADY, EARLY, "done")),
+    (points, ("graph", "placement"), (STEADY, EARLY)),
+    (made_at, ("graph", "placement", "node"), (STEADY, EARLY, 6)),
+    (live_points, ("graph", "placement", "node"), (STEADY, EARLY, 6)),
+    (clash, ("graph", "placement", "one", "other"), (STEADY, EARLY, 1, 6)),
+    (live_at, ("graph", "placement", "point"), (STEADY, EARLY, ("done", 3))),
+    (most_live, ("graph", "placement"), (STEADY, EARLY)),
+    (registers_of, ("graph", "placement"), (STEADY, EARLY)),
+    (register_paper, ("graph", "placement"), (STEADY, EARLY)),
+    (fewest_registers, ("graph", "placement"), (STEADY, EARLY)),
+    (squeezed, ("graph", "many"), (STEADY, 5)),
 )
 
 # Functions with arguments that are handed in by their names alone, and such arguments.
@@ -123,4 +150,15 @@ NAMED = (
     (toll_paper, (STEADY,), PRICED),
     (toll_bound, (STEADY, ()), PRICED),
     (check_tolls, (STEADY, toll_paper(STEADY, **PRICED)), PRICED),
+    (run, (STEADY, (1,)), {"most": 7}),
+    (trace, (STEADY, (1,)), {"most": 7}),
+    (run_paper, (STEADY, (1,)), {"most": 7}),
+    (check_run, (STEADY, run_paper(STEADY, (1,), most=7), (1,)), {"most": 7}),
+    (run_placed, (STEADY, EARLY, (1,)), {"most": 7}),
+    (placed_trace, (STEADY, EARLY, (1,)), {"most": 7}),
+    (speculated, (STEADY, EARLY, (1,)), {"most": 7}),
+    (work_of, (STEADY, EARLY, (1,)), {"hold": 2, "most": 7}),
+    (counts_of, (STEADY, (1,)), {"most": 7}),
+    (counts_of_all, (STEADY, [(1,), (2,)]), {"most": 7, "top": 3}),
+    (squeezed, (STEADY, 5), {"most": 56}),
 )

@@ -61,6 +61,29 @@ INTERFACE = {
         "toll_paper": "(graph, *, profile=None, hold=1)", "toll_bound": "(graph, tolls, *, profile=None, hold=1)",
         "check_tolls": "(graph, paper, *, profile=None, hold=1)",
     },
+    "demand": {"run": "(graph, given=(), *, most=200)", "trace": "(graph, given=(), *, most=200)"},
+    "runpaper": {
+        "run_paper": "(graph, given=(), *, most=200)", "check_run": "(graph, paper, given=(), *, most=200)",
+    },
+    "placedrun": {
+        "run_placed": "(graph, placement, given=(), *, most=200)",
+        "placed_trace": "(graph, placement, given=(), *, most=200)",
+        "speculated": "(graph, placement, given=(), *, most=200)",
+        "work_of": "(graph, placement, given=(), *, hold=1, most=200)",
+    },
+    "profiles": {
+        "counts_of": "(graph, given=(), *, most=200)", "counts_of_all": "(graph, givens, *, most=200, top=999)",
+    },
+    "liveness": {
+        "rows_of": "(graph, placement, block)", "points": "(graph, placement)",
+        "made_at": "(graph, placement, node)", "live_points": "(graph, placement, node)",
+        "clash": "(graph, placement, one, other)", "live_at": "(graph, placement, point)",
+        "most_live": "(graph, placement)",
+    },
+    "registers": {
+        "registers_of": "(graph, placement)", "register_paper": "(graph, placement)",
+        "fewest_registers": "(graph, placement)", "squeezed": "(graph, many, *, most=300)",
+    },
 }
 
 

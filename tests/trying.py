@@ -33,6 +33,7 @@ class Trial:
         self.phis = [node for node in self.live if self.kinds[node] == "phi"]
         self.fixed = {node: [slot for slot, one in fixed_uses(graph) if one == node] for node in self.live}
         self.users = {node: [user for user in self.floats if node in self.inputs[user]] for node in self.live}
+        self.kept_order = self.order_found()
         self.free = {(node, slot): self.is_free(node, slot) for node in self.floats for slot in self.slots}
 
     def is_free(self, node, slot):
@@ -77,6 +78,10 @@ class Trial:
 
     def order(self):
         """The floating nodes in their order."""
+        return self.kept_order
+
+    def order_found(self):
+        """The floating nodes: again and again the least one all of whose floating inputs stand ahead."""
         found = []
         while len(found) < len(self.floats):
             found.append(min(
