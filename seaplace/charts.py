@@ -5,6 +5,7 @@ whole number in which their bits are set: so those that dominate two slots are o
 lowest of these is the highest bit.
 """
 
+from seaplace.bits import bits_of, first_bit, last_bit
 from seaplace.facts import deeds_in, entry_of, live_in, predecessors_in, reached_in, uses_in, ways_in
 from seaplace.guards import guards_in
 from seaplace.parts import asked_by
@@ -14,30 +15,6 @@ from seaplace.words import REGIONS
 
 STILL = ("phi", "given")
 DIVIDES = ("div", "rest")
-
-
-def bits_of(marks):
-    """The numbers of the bits that are set, a list, rising."""
-    found = []
-    while marks:
-        least = marks & -marks
-        found.append(least.bit_length() - 1)
-        marks = marks ^ least
-    return found
-
-
-def first_bit(marks):
-    """The number of the lowest bit that is set, of the highest slot; None of none."""
-    if not marks:
-        return None
-    return (marks & -marks).bit_length() - 1
-
-
-def last_bit(marks):
-    """The number of the highest bit that is set, of the lowest slot; None of none."""
-    if not marks:
-        return None
-    return marks.bit_length() - 1
 
 
 def slots_by_tree(graph):

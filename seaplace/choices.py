@@ -5,7 +5,8 @@ one such point to the next one of the same node is cut where the node stands bet
 to that of its input where the input stands above the slot and its word is held there for the user.
 """
 
-from seaplace.charts import bits_of, reach_of, steps_between
+from seaplace.bits import bits_of
+from seaplace.charts import reach_of, steps_between
 from seaplace.costs import COSTS
 from seaplace.cuts import SINK, SOURCE, Net, cut_high, cut_low, fill
 

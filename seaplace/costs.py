@@ -1,6 +1,7 @@
 """What a placement costs by a profile: words that are reckoned, and words that are held."""
 
-from seaplace.charts import bits_of, reach_of
+from seaplace.bits import bits_of
+from seaplace.charts import reach_of
 from seaplace.errors import BadProfile, NoNode, OutOfPlace
 from seaplace.facts import names_in
 from seaplace.loops import loops_in

@@ -28,13 +28,13 @@ class Net:
 
 
 def steps_to_sink(net):
-    """A list, by points, of how few arcs with room lead from each to the sink; -1 of none."""
+    """A list, by points, of how few arcs with room lead from each to the sink; -1 of none, or more than the source."""
     ends, room, arcs = net.ends, net.room, net.arcs
     found = [-1] * len(arcs)
     found[SINK] = 0
     rows = [SINK]
     at = 0
-    while at < len(rows):
+    while at < len(rows) and found[SOURCE] < 0:
         here = rows[at]
         at += 1
         far = found[here] + 1

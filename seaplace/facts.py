@@ -1,7 +1,6 @@
 """What the blocks and nodes of a good graph tell; nothing is looked at twice here."""
 
-from seaplace.parts import asked_by
-from seaplace.words import is_among
+from seaplace.parts import asked_by, is_number
 
 
 def entry_of(graph):
@@ -69,39 +68,53 @@ def slots_in(graph):
 
 def has_slot(deeds, thing):
     """Whether a thing is a slot of blocks with these deeds, a dict by names."""
-    if not isinstance(thing, tuple) or len(thing) != 2 or not isinstance(thing[0], str):
+    if not isinstance(thing, tuple) or len(thing) != 2:
         return False
-    return thing[0] in deeds and is_among(thing[1], 0, len(deeds[thing[0]]))
-
-
-def asks_in(graph):
-    """A list of pairs of a slot and a node that its deed, or its block's END, asks for."""
-    rows = []
-    for name, deeds, end in graph[0]:
-        for place, thing in enumerate((*deeds, end)):
-            rows.extend([((name, place), node) for node in asked_by(thing)])
-    return rows
+    name, place = thing
+    return isinstance(name, str) and name in deeds and is_number(place, len(deeds[name]) + 1)
 
 
 def live_in(graph):
     """The live nodes, rising."""
-    rows = [node for _, node in asks_in(graph)]
-    found = set()
+    rows = []
+    for _, deeds, end in graph[0]:
+        for deed in deeds:
+            rows.extend(asked_by(deed))
+        rows.extend(asked_by(end))
+    nodes = graph[1]
+    live = [False] * len(nodes)
     while rows:
         node = rows.pop()
-        if node not in found:
-            found.add(node)
-            rows.extend(asked_by(graph[1][node]))
-    return tuple(sorted(found))
+        if not live[node]:
+            live[node] = True
+            rows.extend(asked_by(nodes[node]))
+    return tuple([node for node, is_live in enumerate(live) if is_live])
+
+
+def phi_asks(graph):
+    """A list of pairs of a block's name and a node that its last slot is asked for by a live phi."""
+    phis = [graph[1][node] for node in live_in(graph) if graph[1][node][0] == "phi"]
+    if not phis:
+        return []
+    ahead = predecessors_in(graph)
+    return [(name, node) for _, block, inputs in phis for name, node in zip(ahead[block], inputs)]
 
 
 def uses_in(graph):
     """The fixed uses, pairs of a slot and a node, rising, none twice."""
-    rows = asks_in(graph)
-    deeds = deeds_in(graph)
-    ahead = predecessors_in(graph)
-    for node in live_in(graph):
-        thing = graph[1][node]
-        if thing[0] == "phi":
-            rows.extend([((name, len(deeds[name])), asked) for name, asked in zip(ahead[thing[1]], thing[2])])
-    return tuple(sorted(set(rows)))
+    asks = {}
+    for name, deeds, end in graph[0]:
+        asks[name] = [asked_by(deed) for deed in deeds]
+        asks[name].append(asked_by(end))
+    for name, node in phi_asks(graph):
+        slots = asks[name]
+        slots[-1] = slots[-1] + (node,)
+    rows = []
+    for name in sorted(asks):
+        for place, nodes in enumerate(asks[name]):
+            slot = (name, place)
+            if len(nodes) > 1:
+                nodes = sorted(set(nodes))
+            for node in nodes:
+                rows.append((slot, node))
+    return tuple(rows)

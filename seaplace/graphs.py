@@ -1,7 +1,7 @@
 """Graphs: blocks that branch, join and loop, and a sea of nodes."""
 
 from seaplace.errors import BadGraph
-from seaplace.facts import deeds_in, has_slot, live_in, names_in, predecessors_in, slots_in, uses_in, ways_by
+from seaplace.facts import deeds_in, has_slot, live_in, names_in, slots_in, uses_in, ways_by
 from seaplace.forms import fault_of
 from seaplace.needs import need_block, need_node
 from seaplace.parts import asked_by
@@ -48,7 +48,7 @@ def predecessors(graph, name):
     """The names of the blocks from which edges go to this one, in the order of blocks."""
     need_graph(graph)
     need_block(graph, name)
-    return predecessors_in(graph)[name]
+    return tuple([block[0] for block in graph[0] if name in ways_by(block[2])])
 
 
 def inputs_of(graph, node):

@@ -2,7 +2,7 @@
 
 from seaplace.errors import BadRow
 from seaplace.graphs import need_graph
-from seaplace.parts import DEED_WORDS, END_WORDS, NODE_WORDS, misplaced, thing_of, words_for
+from seaplace.parts import END_WORDS, INSIDE_WORDS, NODE_WORDS, text_for, told_by
 from seaplace.words import words_of
 
 
@@ -11,8 +11,11 @@ def rows_for(graph):
     rows = []
     for name, deeds, end in graph[0]:
         rows.append("block " + name)
-        rows.extend([" ".join(words_for(thing)) for thing in (*deeds, end)])
-    rows.extend(["node " + " ".join(words_for(thing)) for thing in graph[1]])
+        for deed in deeds:
+            rows.append(text_for(deed))
+        rows.append(text_for(end))
+    for thing in graph[1]:
+        rows.append("node " + text_for(thing))
     return rows
 
 
@@ -24,10 +27,10 @@ def graph_text(graph):
 
 def read_thing(words, firsts, row, ahead):
     """What words tell behind one of these first words, or BadRow; so many words stand ahead in that row."""
-    place = misplaced(words, firsts)
+    thing, place = told_by(words, firsts)
     if place is not None:
         raise BadRow(row, place + ahead)
-    return thing_of(words)
+    return thing
 
 
 def read_rows(rows, first):
@@ -41,7 +44,7 @@ def read_rows(rows, first):
         if words is None:
             raise BadRow(number, 0)
         if name is not None:
-            thing = read_thing(words, DEED_WORDS + END_WORDS, number, 0)
+            thing = read_thing(words, INSIDE_WORDS, number, 0)
             if thing[0] in END_WORDS:
                 blocks.append((name, tuple(deeds), thing))
                 name = None

@@ -11,13 +11,14 @@ def frontiers_in(graph):
     names = names_in(graph)
     ahead = predecessors_in(graph)
     over = above_in(graph)
-    found = {}
-    for name in names:
-        found[name] = tuple([
-            other for other in names
-            if any([name in over[one] for one in ahead[other]]) and (name == other or name not in over[other])
-        ])
-    return found
+    found = {name: {} for name in names}
+    for other in names:
+        for one in ahead[other]:
+            for name in over[one]:
+                if name == other or name not in over[other]:
+                    front = found[name]
+                    front[other] = True
+    return {name: tuple(found[name]) for name in names}
 
 
 def joins_in(graph, blocks):

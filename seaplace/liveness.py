@@ -1,6 +1,6 @@
 """At which points of a placement each word lives."""
 
-from seaplace.charts import bits_of
+from seaplace.bits import bits_of
 from seaplace.errors import NoNode, OutOfPlace
 from seaplace.lives import Frame, Lives, fullest, made_points
 from seaplace.needs import need_block

@@ -109,7 +109,8 @@ def live_marks(frame, rows):
 
 def how_many(marks):
     """How many nodes these are."""
-    return f"{marks:b}".count("1")
+    figures = f"{marks:b}"
+    return figures.count("1")
 
 
 def fullest(lives):

@@ -1,35 +1,52 @@
 """The first words of deeds, ENDs and nodes, and of what kinds the parts behind them are."""
 
-from seaplace.words import GIVENS, REGIONS, is_among, is_name, is_whole, is_word, number_of
+from seaplace.words import is_among, is_name, number_of
 
-DEED_WORDS = ("out", "store", "check")
 END_WORDS = ("goto", "if", "return")
+INSIDE_WORDS = ("out", "store", "check", "goto", "if", "return")
 NODE_WORDS = (
     "word", "given", "phi", "add", "sub", "mul", "and", "xor", "less", "same", "pick", "div", "rest", "load",
 )
 
-PARTS = {
+# The nodes of two inputs and nothing else.
+PAIRS = {
+    "add": True, "sub": True, "mul": True, "and": True, "xor": True, "less": True, "same": True, "div": True,
+    "rest": True,
+}
+
+# What the words behind a first one are in a text; behind a phi's block come numbers, as many as there are.
+FORMS = {
     "block": ("name",),
-    "out": ("node",),
-    "store": ("region", "node", "node"),
-    "check": ("node",),
+    "out": ("number",),
+    "store": ("number", "number", "number"),
+    "check": ("number",),
     "goto": ("name",),
-    "if": ("node", "name", "name"),
-    "return": ("node",),
-    "word": ("word",),
-    "given": ("given",),
-    "phi": ("name", "nodes"),
-    "add": ("node", "node"),
-    "sub": ("node", "node"),
-    "mul": ("node", "node"),
-    "and": ("node", "node"),
-    "xor": ("node", "node"),
-    "less": ("node", "node"),
-    "same": ("node", "node"),
-    "pick": ("node", "node", "node"),
-    "div": ("node", "node"),
-    "rest": ("node", "node"),
-    "load": ("region", "node", "version"),
+    "if": ("number", "name", "name"),
+    "return": ("number",),
+    "word": ("number",),
+    "given": ("number",),
+    "phi": ("name",),
+    "add": ("number", "number"),
+    "sub": ("number", "number"),
+    "mul": ("number", "number"),
+    "and": ("number", "number"),
+    "xor": ("number", "number"),
+    "less": ("number", "number"),
+    "same": ("number", "number"),
+    "pick": ("number", "number", "number"),
+    "div": ("number", "number"),
+    "rest": ("number", "number"),
+    "load": ("number", "number", "name", "number"),
+}
+
+# From which place on the parts stand in a tuple of their own, the last part of a node.
+INNER = {"phi": 2, "load": 3}
+
+# From where to where nodes stand in a deed, an END or a node; a phi's stand in a tuple of their own.
+ASKED = {
+    "out": (1, 2), "store": (2, 4), "check": (1, 2), "goto": (1, 1), "if": (1, 2), "return": (1, 2), "word": (1, 1),
+    "given": (1, 1), "phi": None, "add": (1, 3), "sub": (1, 3), "mul": (1, 3), "and": (1, 3), "xor": (1, 3),
+    "less": (1, 3), "same": (1, 3), "pick": (1, 4), "div": (1, 3), "rest": (1, 3), "load": (2, 3),
 }
 
 
@@ -38,104 +55,60 @@ def is_tuple_of(thing, least, most):
     return isinstance(thing, tuple) and least <= len(thing) <= most
 
 
-def is_part(kind, part, many):
-    """Whether a part is of a kind, where there are so many nodes."""
-    if kind == "node":
-        return is_among(part, 0, many - 1)
-    if kind == "name":
-        return is_name(part)
-    if kind == "region":
-        return is_among(part, 0, REGIONS - 1)
-    if kind == "given":
-        return is_among(part, 0, GIVENS - 1)
-    if kind == "word":
-        return is_word(part)
-    if kind == "nodes":
-        return isinstance(part, tuple) and all([is_among(node, 0, many - 1) for node in part])
-    return is_tuple_of(part, 2, 2) and is_name(part[0]) and is_whole(part[1])
+def is_number(thing, many):
+    """Whether a thing is a whole number below many."""
+    if type(thing) is int:
+        return 0 <= thing < many
+    return is_among(thing, 0, many - 1)
 
 
-def has_parts(thing, firsts, many):
-    """Whether a thing is a tuple of one of these first words and its parts, where there are so many nodes."""
-    if not isinstance(thing, tuple) or not thing or not isinstance(thing[0], str) or thing[0] not in firsts:
-        return False
-    kinds = PARTS[thing[0]]
-    if len(thing) != len(kinds) + 1:
-        return False
-    return all([is_part(kind, part, many) for kind, part in zip(kinds, thing[1:])])
+def are_numbers(things, many):
+    """Whether all of these things are whole numbers below many."""
+    for thing in things:
+        if not is_number(thing, many):
+            return False
+    return True
 
 
 def asked_by(thing):
     """The nodes that a deed, an END or a node names, in their order."""
-    found = []
-    for kind, part in zip(PARTS[thing[0]], thing[1:]):
-        if kind == "node":
-            found.append(part)
-        elif kind == "nodes":
-            found.extend(part)
-    return tuple(found)
+    places = ASKED[thing[0]]
+    if places is None:
+        return thing[2]
+    return thing[places[0]:places[1]]
 
 
-def words_for(thing):
-    """The words that tell a deed, an END or a node in a text."""
-    words = []
-    for part in thing:
-        if isinstance(part, tuple):
-            words.extend([str(one) for one in part])
-        else:
-            words.append(str(part))
-    return words
+def text_for(thing):
+    """The words that tell a deed, an END or a node, with blanks between."""
+    if thing[0] in INNER:
+        thing = thing[:-1] + thing[-1]
+    return " ".join(map(str, thing))
 
 
-def forms_for(words):
-    """The forms, "name" or "number", that words behind such a first one must have."""
-    forms = []
-    for kind in PARTS[words[0]]:
-        if kind == "name":
-            forms.append("name")
-        elif kind == "version":
-            forms.extend(["name", "number"])
-        elif kind == "nodes":
-            # A text may tell any number of them: how many are due only the blocks tell.
-            forms.extend(["number"] * (len(words) - 1 - len(forms)))
-        else:
-            forms.append("number")
-    return forms
+def told_by(words, firsts):
+    """What words tell behind one of these first words, and None; or None and the place of the first that can't stand.
 
-
-def has_form(word, form):
-    """Whether a word is a name, or a number, as its form asks."""
-    if form == "name":
-        return is_name(word)
-    return number_of(word) is not None
-
-
-def misplaced(words, firsts):
-    """The place, from 1, of the first word that can't stand by its form behind one of these first words, or None."""
+    Places are counted from 1; it is the one behind the last where words lack.
+    """
     if not words or words[0] not in firsts:
-        return 1
-    forms = forms_for(words)
-    for place, form in enumerate(forms, 1):
-        if place >= len(words) or not has_form(words[place], form):
-            return place + 1
-    if len(words) > len(forms) + 1:
-        return len(forms) + 2
-    return None
-
-
-def thing_of(words):
-    """The deed, END or node that words tell, none of them misplaced."""
-    parts = []
-    at = 1
-    for kind in PARTS[words[0]]:
-        if kind == "name":
-            parts.append(words[at])
-        elif kind == "version":
-            parts.append((words[at], number_of(words[at + 1])))
-            at += 1
-        elif kind == "nodes":
-            parts.append(tuple([number_of(word) for word in words[at:]]))
+        return (None, 1)
+    first = words[0]
+    forms = FORMS[first]
+    if first == "phi":
+        forms = forms + ("number",) * (len(words) - 2)
+    parts = [first]
+    for word, form in zip(words[1:], forms):
+        if form == "number":
+            part = number_of(word)
+        elif is_name(word):
+            part = word
         else:
-            parts.append(number_of(words[at]))
-        at += 1
-    return (words[0], *parts)
+            part = None
+        if part is None:
+            return (None, len(parts) + 1)
+        parts.append(part)
+    if len(words) != len(forms) + 1:
+        return (None, len(parts) + 1)
+    if first in INNER:
+        return ((*parts[:INNER[first]], tuple(parts[INNER[first]:])), None)
+    return (tuple(parts), None)

@@ -1,6 +1,6 @@
 """Placements: which of them are legal, how many, and their numbers."""
 
-from seaplace.charts import first_bit
+from seaplace.bits import first_bit
 from seaplace.errors import BadPlacement, NoNode, OutOfPlace, TooGreat
 from seaplace.facts import has_slot
 from seaplace.needs import need_most

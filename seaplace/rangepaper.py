@@ -1,6 +1,7 @@
 """Papers that show, by two placements and a reason for each slot, from where to where nodes may stand."""
 
-from seaplace.charts import DIVIDES, first_bit, last_bit, uses_of
+from seaplace.bits import first_bit, last_bit
+from seaplace.charts import DIVIDES, uses_of
 from seaplace.errors import BadPaper
 from seaplace.facts import has_slot
 from seaplace.parts import is_tuple_of

@@ -1,6 +1,7 @@
 """Papers that show by tolls that no legal placement costs less."""
 
-from seaplace.charts import STILL, bits_of, reach_of, steps_between
+from seaplace.bits import bits_of
+from seaplace.charts import STILL, reach_of, steps_between
 from seaplace.choices import Choice, chosen, flows_of
 from seaplace.costs import COSTS, counts_at, price_of
 from seaplace.errors import BadPaper

@@ -1,26 +1,41 @@
 """Which blocks and slots of a good graph dominate which."""
 
+from seaplace.bits import bits_of
 from seaplace.facts import entry_of, names_in, reached_in, ways_in
+
+
+def over_in(ahead):
+    """A list of the places of blocks that dominate each, as bits; by lists of the places from which edges go to it.
+
+    The entry has place 0, and each block one behind all that dominate it.
+    """
+    found = [1] + [-1] * (len(ahead) - 1)
+    changed = True
+    while changed:
+        changed = False
+        for place in range(1, len(ahead)):
+            marks = -1
+            for one in ahead[place]:
+                marks = marks & found[one]
+            marks = marks | 1 << place
+            if marks != found[place]:
+                found[place] = marks
+                changed = True
+    return found
 
 
 def above_in(graph):
     """A dict of each block's name and the blocks that dominate it, a tuple, the entry first, itself last."""
-    names = names_in(graph)
     ways = ways_in(graph)
-    found = {name: [] for name in names}
-    for name in names:
-        reached = reached_in(ways, entry_of(graph), (name,))
-        for other in names:
-            if other not in reached:
-                found[other].append(name)
-    return {name: tuple(from_above(found, name)) for name in names}
-
-
-def from_above(found, name):
-    """The blocks that dominate this one, the highest first, where all such are found in some order."""
-    # Of two blocks on one chain the lower one is dominated by more.
-    rows = sorted([(len(found[one]), one) for one in found[name]])
-    return [one for _, one in rows]
+    # Whichever way a block is found from the entry, those that dominate it are found ahead of it.
+    found = list(reached_in(ways, entry_of(graph), ()))
+    places = {name: place for place, name in enumerate(found)}
+    ahead = [[] for _ in found]
+    for name, on in ways.items():
+        for way in on:
+            ahead[places[way]].append(places[name])
+    over = over_in(ahead)
+    return {name: tuple([found[one] for one in bits_of(over[places[name]])]) for name in names_in(graph)}
 
 
 def tree_in(graph):

@@ -11,8 +11,6 @@ MOST_BLOCKS = 12
 MOST_NODES = 40
 MOST_DEEDS = 5
 
-LETTERS = "abcdefghijklmnopqrstuvwxyz"
-FIGURES = "0123456789"
 MOST_LETTERS = 8
 MOST_FIGURES = 5
 
@@ -24,6 +22,8 @@ def is_whole(thing):
 
 def is_among(thing, least, most):
     """Whether a thing is a whole number from least to most."""
+    if type(thing) is int and type(least) is int and type(most) is int:
+        return least <= thing <= most
     return is_whole(thing) and is_whole(least) and is_whole(most) and least <= thing <= most
 
 
@@ -32,21 +32,17 @@ def is_word(thing, *, most=WORD - 1):
     return is_among(thing, 0, most)
 
 
-def is_spelled(thing, signs, most):
-    """Whether a thing is a text of one to most signs, each of them one of these."""
-    if not isinstance(thing, str) or not 1 <= len(thing) <= most:
-        return False
-    return all([sign in signs for sign in thing])
-
-
 def is_name(thing):
     """Whether a thing is one to eight small letters."""
-    return is_spelled(thing, LETTERS, MOST_LETTERS)
+    if not isinstance(thing, str) or len(thing) > MOST_LETTERS:
+        return False
+    # Of no sign at all none is a letter.
+    return thing.isascii() and thing.isalpha() and thing.islower()
 
 
 def number_of(word):
     """The number of one to five figures without a 0 ahead, or None."""
-    if not is_spelled(word, FIGURES, MOST_FIGURES):
+    if not isinstance(word, str) or len(word) > MOST_FIGURES or not word.isascii() or not word.isdigit():
         return None
     if word[0] == "0" and len(word) > 1:
         return None

@@ -9,11 +9,12 @@ PACKAGE = Path(__file__).resolve().parent.parent / "seaplace"
 FILES = sorted(PACKAGE.glob("*.py"))
 BUILTINS = set(
     "len range enumerate zip min max sum abs sorted reversed int str bool list tuple dict set isinstance ord repr any "
-    "all divmod ValueError LookupError RuntimeError".split()
+    "all map type ValueError LookupError RuntimeError".split()
 )
 METHODS = set(
     "append clear copy count endswith extend find get index insert items join keys pop remove replace reverse "
-    "setdefault split startswith strip update values add discard bit_length".split()
+    "setdefault split startswith strip update values add discard bit_length isascii "
+    "isalpha islower isdigit".split()
 )
 BARRED = set("mro elements open input law eval exec compile globals locals vars dir help id type super".split())
 STATEMENTS = (

@@ -227,6 +227,25 @@ class RangePapers(unittest.TestCase):
         wrong = ((1, "guard", (("a", 2),)), *rows[1:])
         self.refused((early, with_slot(late, 3, ("a", 0)), wrong), 0, checked)
 
+    def test_truths_are_no_nodes(self):
+        graph = ((("a", (("out", 0), ("out", 1), ("out", 2)), ("return", 3)),),
+                 (("add", 4, 4), ("add", 0, 5), ("sub", 1, 0), ("xor", 1, 1), ("given", 0), ("word", 1)))
+        paper = range_paper(graph)
+        self.assertEqual(check_ranges(graph, paper), ranges(graph))
+        lower = ((0, ("a", 0)), (1, ("a", 1)), (2, ("a", 2)), (3, ("a", 3)), (5, ("a", 1)))
+        self.assertIs(is_placement(graph, lower), True)
+        for at, row in enumerate(paper[2]):
+            for one in ((bool(row[0]), *row[1:]), (row[0], ("input", True), row[2]), (row[0], ("input", False), row[2]),
+                        (row[0], row[1], (True,)), (row[0], row[1], (True, True))):
+                if one[0] == row[0]:
+                    self.refused((*paper[:2], with_row(paper[2], at, one)), at, graph)
+        blocks = (("top", (), ("goto", "a")), ("a", (("out", 1),), ("if", 2, "a", "b")), ("b", (), ("return", 2)))
+        graph = (blocks, (("phi", "a", (1, 0)), ("word", 9), ("add", 3, 3), ("sub", 0, 0)))
+        paper = range_paper(graph)
+        self.assertEqual(paper[2][2], (3, ("input", 0), (2, 2)))
+        self.refused((*paper[:2], with_row(paper[2], 2, (3, ("input", False), (2, 2)))), 2, graph)
+        self.refused((*paper[:2], with_row(paper[2], 1, (2.0, *paper[2][1][1:]))), 1, graph)
+
     def test_the_first_row_is_told(self):
         rows = with_row(with_row(REASONS, 5, None), 2, (4, "guard", (("left", 0),)))
         self.refused((EARLY, LATE, rows), 2)

@@ -259,7 +259,7 @@ class TollPapers(unittest.TestCase):
                     told = refusal(toll_bound, STEADY, rows[:at] + (one,) + rows[at + 1:])
                     self.assertEqual(told, ("BadPaper", at), one)
         for row in ((True, 3, ("foot", 0), -1), (2, 5, ("foot", 0), True), (2, 5, ["foot", 0], -1),
-                    (9, 9, ("top", 0), 1)):
+                    (9, 9, ("top", 0), 1), (10, 5, ("foot", 0), 1), (2, 10, ("foot", 0), 1), (11, 11, ("foot", 0), 1)):
             self.assertEqual(refusal(toll_bound, STEADY, (row,)), ("BadPaper", 0))
 
     def test_the_first_refusal(self):
