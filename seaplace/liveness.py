@@ -2,7 +2,7 @@
 
 from seaplace.bits import bits_of
 from seaplace.errors import NoNode, OutOfPlace
-from seaplace.lives import Frame, Lives, fullest, made_points
+from seaplace.lives import Basis, Lives, fullest, made_points
 from seaplace.needs import need_block
 from seaplace.parts import is_tuple_of
 from seaplace.placements import need_stands
@@ -14,12 +14,12 @@ def lives_of(graph, placement):
     """Where words live by a legal placement; BadGraph, then BadPlacement."""
     chart = chart_of(graph)
     stands = need_stands(chart, placement)
-    return Lives(Frame(chart), stands)
+    return Lives(Basis(chart), stands)
 
 
 def need_live(lives, node):
     """None, or NoNode of what is no live node."""
-    chart = lives.frame.chart
+    chart = lives.basis.chart
     if not is_among(node, 0, len(chart.nodes) - 1) or node not in chart.live:
         raise NoNode(node)
 
@@ -33,7 +33,7 @@ def is_point(lives, thing):
 
 def points_in(lives):
     """All points, a list, blocks in their order."""
-    return [(name, place) for name in lives.frame.names for place in range(len(lives.rows[name]) + 1)]
+    return [(name, place) for name in lives.basis.names for place in range(len(lives.rows[name]) + 1)]
 
 
 def rows_of(graph, placement, block):

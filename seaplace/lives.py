@@ -5,7 +5,7 @@ from seaplace.facts import ends_in, names_in, ways_in
 from seaplace.parts import asked_by
 
 
-class Frame:
+class Basis:
     """What lives by any placement of a graph, dicts by names: what ENDs ask for, and the phis of each block."""
 
     def __init__(self, chart):
@@ -21,10 +21,10 @@ class Frame:
 class Lives:
     """The rows of each block by a placement, and the nodes that are live at each of its points, dicts by names."""
 
-    def __init__(self, frame, stands):
-        self.frame = frame
-        self.rows = rows_in(frame.chart, stands)
-        self.live = live_marks(frame, self.rows)
+    def __init__(self, basis, stands):
+        self.basis = basis
+        self.rows = rows_in(basis.chart, stands)
+        self.live = live_marks(basis, self.rows)
 
 
 def rows_in(chart, stands):
@@ -68,14 +68,14 @@ def phi_marks(chart):
     return found
 
 
-def steps_back(frame, name, rows):
+def steps_back(basis, name, rows):
     """What the rows of a block, the last one first, ask for and make, pairs."""
     found = []
     for kind, number in reversed(rows):
         if kind == "node":
-            found.append((frame.asked[number], 1 << number))
+            found.append((basis.asked[number], 1 << number))
         else:
-            found.append((frame.deeds[name][number], 0))
+            found.append((basis.deeds[name][number], 0))
     return found
 
 
@@ -89,18 +89,18 @@ def ahead_of(marks, steps):
     return found
 
 
-def live_marks(frame, rows):
+def live_marks(basis, rows):
     """A dict of each block and the nodes live at each of its points, a list."""
-    steps = {name: steps_back(frame, name, rows[name]) for name in rows}
-    found = {name: ahead_of(frame.ends[name], steps[name]) for name in rows}
+    steps = {name: steps_back(basis, name, rows[name]) for name in rows}
+    found = {name: ahead_of(basis.ends[name], steps[name]) for name in rows}
     changed = True
     while changed:
         changed = False
         # From behind: what a block leads to is mostly looked at ahead of it.
-        for name in reversed(frame.names):
-            marks = frame.ends[name]
-            for way in frame.ways[name]:
-                marks = marks | (found[way][0] | frame.phis[way]) ^ frame.phis[way]
+        for name in reversed(basis.names):
+            marks = basis.ends[name]
+            for way in basis.ways[name]:
+                marks = marks | (found[way][0] | basis.phis[way]) ^ basis.phis[way]
             if marks != found[name][-1]:
                 found[name] = ahead_of(marks, steps[name])
                 changed = True
@@ -117,7 +117,7 @@ def fullest(lives):
     """The first point, of blocks in their order, at which most nodes are live, and how many these are."""
     best = None
     most = -1
-    for name in lives.frame.names:
+    for name in lives.basis.names:
         for place, marks in enumerate(lives.live[name]):
             many = how_many(marks)
             if many > most:
@@ -128,9 +128,10 @@ def fullest(lives):
 
 def made_points(lives):
     """A dict of each live node and the point at which it is made, blocks ahead of those that they dominate."""
-    chart = lives.frame.chart
+    chart = lives.basis.chart
+    blocks = [slot[0] for slot in chart.slots if slot[1] == 0]
     found = {}
-    for name in [name for name, place in chart.slots if place == 0]:
+    for name in blocks:
         for node in chart.live:
             if chart.own[node] == chart.number[(name, 0)]:
                 found[node] = (name, 0)

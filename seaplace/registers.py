@@ -2,7 +2,7 @@
 
 from seaplace.errors import OutOfPlace
 from seaplace.liveness import lives_of
-from seaplace.lives import Frame, Lives, fullest, made_points
+from seaplace.lives import Basis, Lives, fullest, made_points
 from seaplace.needs import need_most
 from seaplace.placements import all_stands, placement_of
 from seaplace.ranges import sound_chart
@@ -52,8 +52,8 @@ def squeezed(graph, many, *, most=TRIED):
     if not is_among(many, 0, REGISTERS):
         raise OutOfPlace("this is no number of registers")
     need_most(most, MOST)
-    frame = Frame(chart)
+    basis = Basis(chart)
     for stands in all_stands(chart, most):
-        if fullest(Lives(frame, stands))[1] <= many:
+        if fullest(Lives(basis, stands))[1] <= many:
             return placement_of(chart, stands)
     return None
