@@ -1,54 +1,66 @@
 """What a machine does that reckons each node where it stands by a placement."""
 
+from seaplace.charts import DIVIDES
 from seaplace.costs import COSTS, held_marks, need_hold
 from seaplace.needs import need_given, need_most
 from seaplace.operations import reckoned
 from seaplace.placements import need_stands
 from seaplace.ranges import sound_chart
+from seaplace.registers import REGISTERS
 from seaplace.runs import Run, result_of, run_by_demand, run_on
 from seaplace.words import CELLS, HOLD, MOST, STEPS
 
 
 class Machine(Run):
-    """A run with a register for each node; its rows are (NAME, PHIS, DONE)."""
+    """A run in registers, of which a list tells the number by nodes; its rows are (NAME, PHIS, DONE)."""
 
-    def __init__(self, chart, given, stands):
+    def __init__(self, chart, given, stands, numbers):
         Run.__init__(self, chart, given)
         self.stands = stands
+        self.numbers = numbers
         self.here = nodes_at(chart, stands)
         self.come = [0] * len(chart.slots)
         self.done = []
-        self.registers = [None] * len(chart.nodes)
+        self.registers = [0] * REGISTERS
         for node in chart.live:
             if chart.nodes[node][0] == "given":
-                self.registers[node] = self.given[chart.nodes[node][1]]
+                self.keep(node, self.given[chart.nodes[node][1]])
 
     def enter(self, name, phis):
         """Begins the visit of a block whose live phis are set so."""
         for node, word in phis:
-            self.registers[node] = word
+            self.keep(node, word)
         self.done = []
         self.rows.append((name, phis, self.done))
 
     def come_to(self, slot):
-        """Does the nodes that stand in a slot."""
+        """Does the nodes that stand in a slot, up to a quotient by 0."""
         number = self.chart.number[slot]
         self.come[number] += 1
         for node in self.here[number]:
-            self.registers[node] = self.made(self.chart.nodes[node])
-            self.done.append((node, self.registers[node]))
+            thing = self.chart.nodes[node]
+            if thing[0] in DIVIDES and self.word(thing[2]) == 0:
+                self.way = ("divided", node)
+                return
+            word = self.made(thing)
+            self.keep(node, word)
+            self.done.append((node, word))
 
     def made(self, thing):
         """The word that a node makes of its inputs' registers, or of the memory, as they are now."""
         if thing[0] == "word":
             return thing[1]
         if thing[0] == "load":
-            return self.cells[thing[1]][self.registers[thing[2]] % CELLS]
-        return reckoned(thing[0], [self.registers[one] for one in thing[1:]])
+            return self.cells[thing[1]][self.word(thing[2]) % CELLS]
+        return reckoned(thing[0], [self.word(one) for one in thing[1:]])
+
+    def keep(self, node, word):
+        """Puts a word into a node's register."""
+        self.registers[self.numbers[node]] = word
 
     def word(self, node):
         """The word in a node's register."""
-        return self.registers[node]
+        return self.registers[self.numbers[node]]
 
 
 def nodes_at(chart, stands):
@@ -65,7 +77,8 @@ def placed_run(graph, placement, given, most):
     stands = need_stands(chart, placement)
     need_given(given)
     need_most(most, MOST)
-    machine = Machine(chart, given, stands)
+    # No two nodes have the same register.
+    machine = Machine(chart, given, stands, list(range(len(chart.nodes))))
     run_on(machine, most)
     return machine
 

@@ -82,11 +82,12 @@ def do_deed(run, name, place):
 
 
 def go_through(run, name):
-    """Comes to the slots of a block and does its deeds, up to a fault."""
+    """Comes to the slots of a block and does its deeds, up to a fault, or a quotient by 0."""
     last = len(run.chart.deeds[name])
     for place in range(last):
         run.come_to((name, place))
-        do_deed(run, name, place)
+        if run.way is None:
+            do_deed(run, name, place)
         if run.way is not None:
             return
     run.come_to((name, last))

@@ -3,20 +3,26 @@
 from making import LOOPED, STEADY
 
 from seaplace.cheapest import cheapest, pinned_cost, pinned_ranges
+from seaplace.code import check_code, code_of
+from seaplace.coderun import is_code, need_code, run_code
+from seaplace.codetext import code_text, read_code
 from seaplace.costs import cost_of, cost_parts, default_profile, held_slots
 from seaplace.demand import run, trace
 from seaplace.dominators import above, chain, dominates, dominators, meet
 from seaplace.flow import edges, shortest_path
 from seaplace.graphs import (
-    block_of, fixed_uses, floating_nodes, inputs_of, is_slot, live_nodes, names_of, need_graph, node_of, predecessors,
+    block_of, fixed_uses, floating_nodes, inputs_of, is_graph, is_slot, live_nodes, names_of, need_graph, node_of, predecessors,
     slots_of, ways_of,
 )
-from seaplace.graphtext import graph_text
+from seaplace.graphtext import graph_text, read_graph
 from seaplace.guards import guards_of, is_guarded
 from seaplace.joinpaper import check_joins, join_paper
 from seaplace.joins import frontier, joins
 from seaplace.liveness import clash, live_at, live_points, made_at, most_live, points, rows_of
 from seaplace.loops import depth_of, is_reducible, loops
+from seaplace.moves import (
+    are_moves, are_pairs, at_once, check_moves, fewest_moves, lone_rings, one_by_one, single_moves,
+)
 from seaplace.placedrun import placed_trace, run_placed, speculated, work_of
 from seaplace.placements import (
     count_placements, does_fit, early_placement, is_placement, late_placement, legal_placements, need_placement,
@@ -25,6 +31,8 @@ from seaplace.placements import (
 from seaplace.profiles import counts_of, counts_of_all
 from seaplace.rangepaper import check_ranges, range_paper
 from seaplace.ranges import earliest, is_sound, latest, need_sound, order_of, ranges
+from seaplace.registercheck import check_registers, need_registers
+from seaplace.registerrun import run_in_registers
 from seaplace.registers import fewest_registers, register_paper, registers_of, squeezed
 from seaplace.runpaper import check_run, run_paper
 from seaplace.tollcheck import check_tolls, toll_bound, toll_paper
@@ -40,12 +48,15 @@ def deep(many=100000):
     return thing
 
 
+DEEP = deep()
+
+
 def odd_things():
     """Things none of which is a graph, a block's name of LOOPED, one of its slots, or a list or tuple of such."""
     return [
         None, True, False, -1, 10 ** 5000, -(10 ** 5000), "", "nowhere", "Top", "top ", "a b", b"top", {}, {"top": 1},
         {"top"}, (None,), ("top", True), ("top", -1), ("top", 10 ** 5000), ("nowhere", 0), ["top", 0], ("top",),
-        ("top", 0, 0), ([], []), ((), ()), [[]], deep(), [deep()], (deep(), deep()), (("top", (), ("return", 0)),),
+        ("top", 0, 0), ([], []), ((), ()), [[]], DEEP, [DEEP], (DEEP, DEEP), (("top", (), ("return", 0)),),
         ((("top", (), ("return", True)),), (("word", 1),)), object(), frozenset(("top",)), range(3), len, int,
     ]
 
@@ -136,6 +147,38 @@ CALLS = (
     (register_paper, ("graph", "placement"), (STEADY, EARLY)),
     (fewest_registers, ("graph", "placement"), (STEADY, EARLY)),
     (squeezed, ("graph", "many"), (STEADY, 5)),
+    (need_registers, ("graph", "placement", "registers"), (STEADY, EARLY, registers_of(STEADY, EARLY))),
+    (check_registers, ("graph", "placement", "paper"), (STEADY, EARLY, register_paper(STEADY, EARLY))),
+    (
+        run_in_registers, ("graph", "placement", "registers", "given"),
+        (STEADY, EARLY, registers_of(STEADY, EARLY), (2, 3)),
+    ),
+    (code_of, ("graph", "placement"), (STEADY, EARLY)),
+    (
+        check_code, ("graph", "placement", "registers", "code"),
+        (STEADY, EARLY, registers_of(STEADY, EARLY), code_of(STEADY, EARLY)),
+    ),
+)
+
+# Likewise of those that take no graph.
+PAIRS = ((1, 2), (2, 1), (4, 1), (6, 7), (7, 6))
+CODE = code_of(STEADY, EARLY)
+BESIDE = (
+    (is_graph, ("thing",), (STEADY,)),
+    (read_graph, ("text",), (graph_text(STEADY),)),
+    (are_pairs, ("thing",), (PAIRS,)),
+    (are_moves, ("thing",), (PAIRS,)),
+    (lone_rings, ("pairs",), (PAIRS,)),
+    (fewest_moves, ("pairs",), (PAIRS,)),
+    (single_moves, ("pairs",), (PAIRS,)),
+    (at_once, ("pairs", "words"), (PAIRS, (5, 6, 7))),
+    (one_by_one, ("moves", "words"), (PAIRS, (5, 6, 7))),
+    (check_moves, ("pairs", "moves"), (PAIRS, single_moves(PAIRS))),
+    (is_code, ("thing",), (CODE,)),
+    (need_code, ("code",), (CODE,)),
+    (run_code, ("code", "given"), (CODE, (2, 3))),
+    (code_text, ("code",), (CODE,)),
+    (read_code, ("text",), (code_text(CODE),)),
 )
 
 # Functions with arguments that are handed in by their names alone, and such arguments.
@@ -161,4 +204,10 @@ NAMED = (
     (counts_of, (STEADY, (1,)), {"most": 7}),
     (counts_of_all, (STEADY, [(1,), (2,)]), {"most": 7, "top": 3}),
     (squeezed, (STEADY, 5), {"most": 56}),
+    (need_registers, (STEADY, EARLY, registers_of(STEADY, EARLY)), {"right": False}),
+    (run_in_registers, (STEADY, EARLY, registers_of(STEADY, EARLY), (1,)), {"most": 7}),
+    (code_of, (STEADY, EARLY), {"registers": registers_of(STEADY, EARLY)}),
+    (single_moves, (PAIRS,), {"spare": 63}),
+    (check_moves, (PAIRS, single_moves(PAIRS, spare=63)), {"spare": 63}),
+    (run_code, (CODE, (1,)), {"most": 7}),
 )

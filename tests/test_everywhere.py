@@ -6,7 +6,7 @@ import unittest
 from importlib import import_module
 
 from making import LOOPED
-from odd import CALLS, NAMED, odd_things
+from odd import BESIDE, CALLS, NAMED, odd_things
 
 from seaplace.errors import BadGraph, GraphError, MissError, UnsoundError
 from seaplace.graphs import is_graph
@@ -84,6 +84,23 @@ INTERFACE = {
         "registers_of": "(graph, placement)", "register_paper": "(graph, placement)",
         "fewest_registers": "(graph, placement)", "squeezed": "(graph, many, *, most=300)",
     },
+    "registercheck": {
+        "need_registers": "(graph, placement, registers, *, right=True)",
+        "check_registers": "(graph, placement, paper)",
+    },
+    "registerrun": {"run_in_registers": "(graph, placement, registers, given=(), *, most=200)"},
+    "moves": {
+        "are_pairs": "(thing)", "are_moves": "(thing)", "lone_rings": "(pairs)", "fewest_moves": "(pairs)",
+        "single_moves": "(pairs, *, spare=None)", "at_once": "(pairs, words)", "one_by_one": "(moves, words)",
+        "check_moves": "(pairs, moves, *, spare=None)",
+    },
+    "code": {
+        "code_of": "(graph, placement, *, registers=None)", "check_code": "(graph, placement, registers, code)",
+    },
+    "coderun": {
+        "is_code": "(thing)", "need_code": "(code)", "run_code": "(code, given=(), *, most=200)",
+    },
+    "codetext": {"code_text": "(code)", "read_code": "(text)"},
 }
 
 
@@ -108,14 +125,16 @@ class Everywhere(unittest.TestCase):
                 self.assertEqual(str(inspect.signature(function)), arguments)
 
     def test_every_function_is_called(self):
-        called = {call[0].__name__ for call in CALLS} | {"is_graph", "read_graph"}
+        called = {call[0].__name__ for call in CALLS + BESIDE}
         told = {name for stem, names in INTERFACE.items() if stem != "words" for name in names}
         self.assertEqual(called, told)
 
     def test_by_place_and_by_name(self):
-        for function, names, things in CALLS:
+        for function, names, things in CALLS + BESIDE:
             named = dict(zip(names, things))
             self.assertEqual(function(*things), function(**named))
+            # In another order, too.
+            self.assertEqual(function(*things), function(**{name: named[name] for name in reversed(names)}))
 
     def test_nothing_is_changed(self):
         for function, things, named in self.each_call():
@@ -126,7 +145,7 @@ class Everywhere(unittest.TestCase):
                              [list(one) for one in ahead[1].values() if isinstance(one, dict)])
 
     def each_call(self):
-        return [(function, things, {}) for function, _, things in CALLS] + list(NAMED)
+        return [(function, things, {}) for function, _, things in CALLS + BESIDE] + list(NAMED)
 
     def test_every_named_argument_is_handed_in(self):
         named = {function.__name__: set(named) for function, _, named in NAMED}
@@ -165,8 +184,9 @@ class Everywhere(unittest.TestCase):
 
     def test_of_anything(self):
         # Whatever is handed in beside the graph is answered, or refused by a class of this package.
-        for function, _, things in CALLS:
-            for place in range(1, len(things)):
+        beside = [(function, 0, things) for function, _, things in BESIDE]
+        for function, first, things in [(function, 1, things) for function, _, things in CALLS] + beside:
+            for place in range(first, len(things)):
                 for thing in odd_things() + [0, 1, "top", ("top", 0), ["top"], ("top",), (("top", 0),)]:
                     told = list(things)
                     told[place] = thing
