@@ -1,4 +1,4 @@
-"""The first words of deeds, ENDs and nodes, and of what kinds the parts behind them are."""
+"""The first words of deeds, ENDs, nodes and pins, and of what kinds the parts behind them are."""
 
 from seaplace.words import is_among, is_name, number_of
 
@@ -37,6 +37,7 @@ FORMS = {
     "div": ("number", "number"),
     "rest": ("number", "number"),
     "load": ("number", "number", "name", "number"),
+    "pin": ("number", "name", "number"),
 }
 
 # From which place on the parts stand in a tuple of their own, the last part of a node.
@@ -76,6 +77,15 @@ def asked_by(thing):
     if places is None:
         return thing[2]
     return thing[places[0]:places[1]]
+
+
+def renamed(thing, names):
+    """A deed, an END or a node in which nodes are called by other numbers, as a dict or list tells."""
+    places = ASKED[thing[0]]
+    if places is None:
+        return (thing[0], thing[1], tuple([names[node] for node in thing[2]]))
+    first, last = places
+    return (*thing[:first], *[names[node] for node in thing[first:last]], *thing[last:])
 
 
 def text_for(thing):

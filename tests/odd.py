@@ -2,6 +2,8 @@
 
 from making import LOOPED, STEADY
 
+from seaplace.alike import are_alike, classes
+from seaplace.alikepaper import alike_paper, check_alike
 from seaplace.cheapest import cheapest, pinned_cost, pinned_ranges
 from seaplace.code import check_code, code_of
 from seaplace.coderun import is_code, need_code, run_code
@@ -35,8 +37,11 @@ from seaplace.registercheck import check_registers, need_registers
 from seaplace.registerrun import run_in_registers
 from seaplace.registers import fewest_registers, register_paper, registers_of, squeezed
 from seaplace.runpaper import check_run, run_paper
+from seaplace.simpler import folded, merged, simple, tidied
 from seaplace.tollcheck import check_tolls, toll_bound, toll_paper
 from seaplace.treepaper import check_tree, tree_paper
+from seaplace.unitread import read_unit
+from seaplace.unittext import unit_text
 from seaplace.versions import current, new_heads, versions
 
 
@@ -158,6 +163,14 @@ CALLS = (
         check_code, ("graph", "placement", "registers", "code"),
         (STEADY, EARLY, registers_of(STEADY, EARLY), code_of(STEADY, EARLY)),
     ),
+    (classes, ("graph",), (STEADY,)),
+    (are_alike, ("graph", "one", "other"), (STEADY, 4, 5)),
+    (alike_paper, ("graph",), (STEADY,)),
+    (check_alike, ("graph", "paper"), (STEADY, alike_paper(STEADY))),
+    (merged, ("graph",), (STEADY,)),
+    (folded, ("graph",), (STEADY,)),
+    (tidied, ("graph",), (STEADY,)),
+    (simple, ("graph",), (STEADY,)),
 )
 
 # Likewise of those that take no graph.
@@ -179,6 +192,15 @@ BESIDE = (
     (run_code, ("code", "given"), (CODE, (2, 3))),
     (code_text, ("code",), (CODE,)),
     (read_code, ("text",), (code_text(CODE),)),
+    (read_unit, ("text",), (unit_text(STEADY, default_profile(STEADY), ((8, ("top", 1)),), 4),)),
+)
+
+# What is made of good things alone.
+OF_GOOD = (
+    (
+        unit_text, ("graph", "profile", "pins", "hold"),
+        (STEADY, default_profile(STEADY), ((8, ("top", 1)),), 4),
+    ),
 )
 
 # Functions with arguments that are handed in by their names alone, and such arguments.

@@ -5,12 +5,14 @@ import inspect
 import unittest
 from importlib import import_module
 
-from making import LOOPED
-from odd import BESIDE, CALLS, NAMED, odd_things
+from making import LOOPED, STEADY
+from odd import BESIDE, CALLS, NAMED, OF_GOOD, odd_things
 
+from seaplace.desk import Desk
 from seaplace.errors import BadGraph, GraphError, MissError, UnsoundError
 from seaplace.graphs import is_graph
 from seaplace.graphtext import read_graph
+from seaplace.unit import Unit
 
 INTERFACE = {
     "words": {
@@ -101,7 +103,53 @@ INTERFACE = {
         "is_code": "(thing)", "need_code": "(code)", "run_code": "(code, given=(), *, most=200)",
     },
     "codetext": {"code_text": "(code)", "read_code": "(text)"},
+    "alike": {"classes": "(graph)", "are_alike": "(graph, one, other)"},
+    "alikepaper": {"alike_paper": "(graph)", "check_alike": "(graph, paper)"},
+    "simpler": {"merged": "(graph)", "folded": "(graph)", "tidied": "(graph)", "simple": "(graph)"},
+    "unittext": {"unit_text": "(graph, profile, pins, hold)"},
+    "unitread": {"read_unit": "(text)"},
 }
+
+# The methods of each class, and good things to hand in to them, by their names.
+METHODS = {
+    "put_node": ("(self, node, thing)", {"node": 9, "thing": ("word", 3)}),
+    "add_node": ("(self, thing)", {"thing": ("word", 3)}),
+    "add_deed": ("(self, block, deed, at=None)", {"block": "left", "deed": ("out", 0), "at": 0}),
+    "drop_deed": ("(self, block, at)", {"block": "done", "at": 4}),
+    "set_end": ("(self, block, end)", {"block": "done", "end": ("return", 0)}),
+    "split_edge": ("(self, block, to, name)", {"block": "top", "to": "head", "name": "x"}),
+    "set_count": ("(self, block, count)", {"block": "left", "count": 3}),
+    "set_hold": ("(self, hold)", {"hold": 3}),
+    "pin": ("(self, node, slot)", {"node": 8, "slot": ("top", 1)}),
+    "unpin": ("(self, node)", {"node": 8}),
+    "merge": ("(self)", {}), "fold": ("(self)", {}), "tidy": ("(self)", {}),
+    "many": ("(self, deeds)", {"deeds": (("fold",), ("set_hold", 2))}),
+    "undo": ("(self)", {}), "redo": ("(self)", {}), "graph": ("(self)", {}), "profile": ("(self)", {}),
+    "pins": ("(self)", {}), "hold": ("(self)", {}), "ranges": ("(self)", {}),
+    "placement": ("(self, *, early=False)", {"early": True}), "cost": ("(self)", {}),
+    "run": ("(self, given=(), *, most=200)", {"given": (1, 2), "most": 3}), "classes": ("(self)", {}),
+    "registers": ("(self)", {}), "deeds": ("(self)", {}), "log": ("(self)", {}), "busy": ("(self)", {}),
+    "copied": ("(self)", {}),
+}
+DESK_METHODS = {
+    "say": ("(self, line)", {"line": "text"}), "unit": ("(self, name='first')", {"name": "first"}), "at": ("(self)", {}),
+}
+LATER = ("undo", "redo", "graph", "profile", "pins", "hold", "ranges", "placement", "cost", "run", "classes", "registers",
+         "deeds", "log", "busy", "copied")
+
+
+def some_unit():
+    """A unit with a deed that stands, one taken back, and a pin."""
+    unit = Unit(STEADY, pins=((8, ("top", 0)),))
+    unit.set_hold(4)
+    unit.set_hold(5)
+    unit.undo()
+    return unit
+
+
+def told_of(unit):
+    """All that a unit tells without being asked for more."""
+    return (unit.graph(), unit.profile(), unit.pins(), unit.hold(), unit.deeds(), unit.log(), str(unit))
 
 
 def lists_within(thing):
@@ -125,12 +173,12 @@ class Everywhere(unittest.TestCase):
                 self.assertEqual(str(inspect.signature(function)), arguments)
 
     def test_every_function_is_called(self):
-        called = {call[0].__name__ for call in CALLS + BESIDE}
+        called = {call[0].__name__ for call in CALLS + BESIDE + OF_GOOD}
         told = {name for stem, names in INTERFACE.items() if stem != "words" for name in names}
         self.assertEqual(called, told)
 
     def test_by_place_and_by_name(self):
-        for function, names, things in CALLS + BESIDE:
+        for function, names, things in CALLS + BESIDE + OF_GOOD:
             named = dict(zip(names, things))
             self.assertEqual(function(*things), function(**named))
             # In another order, too.
@@ -145,7 +193,7 @@ class Everywhere(unittest.TestCase):
                              [list(one) for one in ahead[1].values() if isinstance(one, dict)])
 
     def each_call(self):
-        return [(function, things, {}) for function, _, things in CALLS + BESIDE] + list(NAMED)
+        return [(function, things, {}) for function, _, things in CALLS + BESIDE + OF_GOOD] + list(NAMED)
 
     def test_every_named_argument_is_handed_in(self):
         named = {function.__name__: set(named) for function, _, named in NAMED}
@@ -206,6 +254,71 @@ class Everywhere(unittest.TestCase):
         for function, things, named in NAMED:
             with self.assertRaises(TypeError):
                 function(*things, *named.values())
+
+    def test_methods(self):
+        for kind, methods in ((Unit, METHODS), (Desk, DESK_METHODS)):
+            for name, (arguments, _) in methods.items():
+                # Defined in the class itself.
+                self.assertIn(name, vars(kind))
+                self.assertEqual(str(inspect.signature(vars(kind)[name])), arguments)
+        for name in ("__init__", "__eq__", "__len__", "__str__"):
+            self.assertIn(name, vars(Unit))
+        self.assertEqual(str(inspect.signature(Unit)), "(graph=None, *, profile=None, pins=(), hold=1)")
+        self.assertEqual(str(inspect.signature(Desk)), "()")
+        self.assertEqual((Unit.__module__, Desk.__module__), ("seaplace.unit", "seaplace.desk"))
+
+    def test_methods_by_place_and_by_name(self):
+        for name, (arguments, things) in METHODS.items():
+            one, other, last = some_unit(), some_unit(), some_unit()
+            ahead = copy.deepcopy(things)
+            told = getattr(one, name)(**things)
+            self.assertEqual(getattr(other, name)(**{key: things[key] for key in reversed(things)}), told)
+            self.assertEqual(told_of(one), told_of(other))
+            if "*" not in arguments:
+                self.assertEqual(getattr(last, name)(*things.values()), told)
+                self.assertEqual(told_of(one), told_of(last))
+            if name not in LATER:
+                self.assertIsNone(told)
+                self.assertEqual(len(one), 2)
+            self.assertEqual(things, ahead)
+        desk = Desk()
+        for name, (_, things) in DESK_METHODS.items():
+            self.assertEqual(getattr(desk, name)(**things), getattr(desk, name)(*things.values()))
+
+    def test_what_methods_tell_is_the_askers_own(self):
+        for name in LATER:
+            unit = some_unit()
+            things = METHODS[name][1]
+            if name in ("undo", "redo"):
+                continue
+            ahead = told_of(unit)
+            told = getattr(unit, name)(**things)
+            kept = copy.deepcopy(told)
+            for one in lists_within(told):
+                one.clear()
+            self.assertEqual(told_of(unit), ahead)
+            self.assertEqual(getattr(unit, name)(**things), kept)
+            told = getattr(unit, name)(**things)
+            unit.many((("add_node", ("word", 7)), ("set_count", "top", 77), ("unpin", 8)))
+            unit.undo()
+            self.assertEqual(told, kept)
+
+    def test_methods_of_anything(self):
+        for name, (_, things) in METHODS.items():
+            for key in things:
+                for thing in odd_things() + [0, 1, "top", ("top", 0), ["top"], ("top",), (("top", 0),), (("fold",),)]:
+                    unit = some_unit()
+                    ahead = told_of(unit)
+                    try:
+                        getattr(unit, name)(**{**things, key: thing})
+                    except (GraphError, MissError, UnsoundError):
+                        log = unit.log()
+                        self.assertEqual(told_of(unit)[:5], ahead[:5])
+                        self.assertEqual(len(log), len(ahead[5]) + 2 * (name not in LATER))
+                    self.assertIs(unit.busy(), False)
+        desk = Desk()
+        for thing in odd_things():
+            self.assertEqual(desk.say(thing), "no line")
 
     def test_texts_and_questions_of_anything(self):
         for thing in odd_things():

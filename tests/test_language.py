@@ -19,7 +19,7 @@ METHODS = set(
 BARRED = set("mro elements open input law eval exec compile globals locals vars dir help id type super".split())
 STATEMENTS = (
     ast.FunctionDef, ast.ClassDef, ast.Assign, ast.AugAssign, ast.If, ast.While, ast.For, ast.Return, ast.Break,
-    ast.Continue, ast.Pass, ast.Raise, ast.Delete, ast.Expr, ast.ImportFrom,
+    ast.Continue, ast.Pass, ast.Raise, ast.Delete, ast.Expr, ast.ImportFrom, ast.Try,
 )
 
 

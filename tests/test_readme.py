@@ -16,6 +16,16 @@ class Readme(unittest.TestCase):
         for asked, answer in rows:
             self.assertEqual(eval(asked, told), ast.literal_eval(answer))
 
+    def test_units_and_desks(self):
+        first, second = re.findall(r"```python\n(.*?)```", README.read_text(), re.S)[:2]
+        told = {}
+        exec(compile(first, "README", "exec"), told)
+        exec(compile(second, "README", "exec"), told)
+        self.assertEqual([row[0] for row in told["unit"].deeds()], ["pin", "add_deed"])
+        desk = told["Desk"]()
+        for asked, answer in re.findall(r'^desk\.say\((".*")\) +# (".*")$', second, re.M):
+            self.assertEqual(desk.say(ast.literal_eval(asked)), ast.literal_eval(answer))
+
 
 if __name__ == "__main__":
     unittest.main()
