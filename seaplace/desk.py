@@ -130,7 +130,8 @@ def answered(desk, line):
     if asked is None:
         return NO_LINE
     answer = ANSWERS[asked[0]]
-    return answer(desk, unit, *asked[1:])
+    things = asked[1:]
+    return answer(desk, unit, *things)
 
 
 def refused(word, *fields):

@@ -13,8 +13,8 @@ from seaplace.demand import run, trace
 from seaplace.dominators import above, chain, dominates, dominators, meet
 from seaplace.flow import edges, shortest_path
 from seaplace.graphs import (
-    block_of, fixed_uses, floating_nodes, inputs_of, is_graph, is_slot, live_nodes, names_of, need_graph, node_of, predecessors,
-    slots_of, ways_of,
+    block_of, fixed_uses, floating_nodes, inputs_of, is_graph, is_slot, live_nodes, names_of, need_graph, node_of,
+    predecessors, slots_of, ways_of,
 )
 from seaplace.graphtext import graph_text, read_graph
 from seaplace.guards import guards_of, is_guarded

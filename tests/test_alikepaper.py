@@ -162,7 +162,8 @@ class AlikePapers(unittest.TestCase):
             if thing != (due[0],):
                 self.assertEqual(told(*due[:3], thing, *due[4:]), ("BadPaper", ("classes", 3)))
                 self.assertEqual(told(*due, thing), ("BadPaper", ("classes", 10)))
-        for nodes in ((6, 5), (5, 5), (5, 6, 6), [5, 6], (5, True), (5, 13), (-1, 5), (5, "6"), (), (4, 5), (0, 5), (1,)):
+        for nodes in ((6, 5), (5, 5), (5, 6, 6), [5, 6], (5, True), (5, 13), (-1, 5), (5, "6"), (), (4, 5), (0, 5),
+                      (1,)):
             self.assertEqual(told(*due[:3], nodes, *due[4:]), ("BadPaper", ("classes", 3)))
         self.assertEqual(told((False, 1), *due[1:]), ("BadPaper", ("classes", 0)))
         # A class whose least node isn't greater than that of the one ahead.
@@ -222,6 +223,26 @@ class AlikePapers(unittest.TestCase):
         self.assertEqual(told(), ("BadPaper", ("rows", 0)))
         # Classes are told ahead of rows.
         self.assertEqual(refusal(check_alike, graph, (parts[:-1], (None,))), ("BadPaper", ("classes", 5)))
+
+    def test_places_of_crossed_inputs(self):
+        graph = one_block([("out", 3), ("out", 4), ("out", 5), ("out", 6), ("out", 2)], ("return", 0), [
+            ("given", 0), ("given", 1), ("given", 2), ("add", 0, 1), ("add", 2, 0), ("xor", 0, 1), ("xor", 0, 2)])
+        parts = tuple((node,) for node in range(7))
+        ahead = tuple((one, other, ()) for one in range(7) for other in range(one + 1, 7)
+                      if (one, other) not in ((3, 4), (5, 6)))
+        for why in ((0, 0), (0, 1), (1, 0), (1, 1)):
+            first = refusal(check_alike, graph, (parts, (*ahead, (3, 4, why), (5, 6, (1, 0)))))
+            self.assertEqual(first, None if why in ((0, 1), (1, 1)) else ("BadPaper", ("rows", len(ahead))))
+            second = refusal(check_alike, graph, (parts, (*ahead, (3, 4, (0, 1)), (5, 6, why))))
+            self.assertEqual(second, None if why in ((1, 0), (1, 1)) else ("BadPaper", ("rows", len(ahead) + 1)))
+        # What is no number, or a truth, is no node.
+        at = ahead.index((1, 3, ()))
+        for wrong in (True, [1], {1: 1}, "1", None, (1,), 1.0):
+            rows = (*ahead[:at], (wrong, 3, ()), *ahead[at + 1:])
+            self.assertEqual(refusal(check_alike, graph, (parts, rows)), ("BadPaper", ("rows", at)))
+        for wrong in ([3], {3: 3}, "3", None, (3,)):
+            rows = (*ahead[:at], (1, wrong, ()), *ahead[at + 1:])
+            self.assertEqual(refusal(check_alike, graph, (parts, rows)), ("BadPaper", ("rows", at)))
 
     def test_lone_by_hand(self):
         graph = one_block([("check", 1), ("out", 2), ("out", 3)], ("return", 2), [

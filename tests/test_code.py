@@ -69,7 +69,8 @@ def shape_of(graph, placement, registers):
             found.append(("jump", ("if", held[end[1]]), labels))
             for at in (0, 1):
                 if busy[at]:
-                    found += [("label", (name, at)), ("moves", on(name, end[2 + at])), ("jump", ("goto",), [end[2 + at]])]
+                    found += [("label", (name, at)), ("moves", on(name, end[2 + at]))]
+                    found.append(("jump", ("goto",), [end[2 + at]]))
     return found
 
 

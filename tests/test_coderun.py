@@ -123,6 +123,8 @@ class CodeRuns(unittest.TestCase):
         for word in bounds:
             code = (("word", 0, word), ("word", 1, 8), ("word", 2, 9), ("pick", 0, 0, 1, 2), ("return", 0))
             self.assertEqual(run_code(code), ((), ("returned", 8 if word else 9)))
+            code = (("word", 0, word), ("word", 1, 8), ("word", 2, 9), ("pick", 3, 0, 1, 2), ("out", 0), ("return", 3))
+            self.assertEqual(run_code(code), ((word,), ("returned", 8 if word else 9)))
             code = (("word", 0, word), ("if", 0, 2, 3), ("return", 0), ("out", 0), ("return", 1))
             self.assertEqual(run_code(code), ((), ("returned", word)) if word else ((0,), ("returned", 0)))
             code = (("word", 0, word), ("out", 0), ("check", 0, "abc", 4), ("out", 0))

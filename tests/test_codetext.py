@@ -87,7 +87,8 @@ class CodeTexts(unittest.TestCase):
             changed = words[:at] + [word] + words[at + 1:]
             self.assertEqual(refusal(read_code, with_row(" ".join(changed))), ("BadRow", 6, at + 1), changed)
             # Of two words the first one is told.
-            self.assertEqual(refusal(read_code, with_row(" ".join(changed[:at + 1] + ["?"] * 5))), ("BadRow", 6, at + 1))
+            changed = changed[:at + 1] + ["?"] * 5
+            self.assertEqual(refusal(read_code, with_row(" ".join(changed))), ("BadRow", 6, at + 1))
         for word in right:
             text = with_row(" ".join(words[:at] + [word] + words[at + 1:]))
             self.assertEqual(code_text(read_code(text)), text)

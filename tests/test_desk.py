@@ -141,8 +141,8 @@ class Desks(unittest.TestCase):
         for line in odd_things() + [
             b"cost", ["cost"], ("cost",), "", " ", ";", " ; ", "cost ", " cost", "Cost", "costs", "cost cost", "cost\n",
             "\ncost", "graph", "profile", "pins", "hold", "classes", "deeds", "log", "busy", "copied", "copied x",
-            "many fold", "many ; fold", "many 1", "unit", "node word 1", "block x", "done", "none", "first", "at", "say",
-            "copy", "use", "same", "copy a b", "use first first", "same first ;", "units first", "text 1",
+            "many fold", "many ; fold", "many 1", "unit", "node word 1", "block x", "done", "none", "first", "at",
+            "say", "copy", "use", "same", "copy a b", "use first first", "same first ;", "units first", "text 1",
             "add_deed entry out 0", "add_deed entry - return 0", "add_deed entry - goto entry", "set_end entry out 0",
             "add_node node word 1", "put_node 0 node word 1", "put_node word 1", "pin 0 entry", "pin entry 0",
             "drop_deed entry -", "set_hold -", "__init__", "undo undo", "undo ; undo", "redo ; fold", "fold ; copy a",
@@ -212,13 +212,26 @@ class Desks(unittest.TestCase):
         self.assertEqual(desk.say("registers"), "0")
         self.assertEqual(desk.say("run"), "stopped")
 
+    def test_line_feeds_are_in_no_line(self):
+        desk = Desk()
+        text = "unit 1 ; counts 1 ; block a ; return 0 ; node word 0"
+        for at in range(text.count(" ; ")):
+            parts = text.split(" ; ")
+            line = " ; ".join(parts[:at + 1]) + "\n" + " ; ".join(parts[at + 1:])
+            self.assertEqual(desk.say("unit " + line), "no line")
+        self.assertEqual(desk.say("unit\n" + text), "no line")
+        self.assertEqual(desk.say("merge\nfold"), "no line")
+        self.assertEqual(desk.say("unit " + text), "done")
+
     def test_texts_refused(self):
         head = "unit 1 ; counts 1 ; "
         body = "block a ; return 0 ; node word 0"
         for text, answer in (
-            ("unit 10 ; counts 1 ; " + body, "row 1 2"), ("x", "row 1 1"), ("unit 1", "row 2 0"), (head[:-3], "row 3 0"),
+            ("unit 10 ; counts 1 ; " + body, "row 1 2"), ("x", "row 1 1"), ("unit 1", "row 2 0"),
+            (head[:-3], "row 3 0"),
             (head + "block a", "row 4 0"), (head + body + " ;", "row 5 4"), ("1 ; counts 1 ; " + body, "row 1 1"),
-            (head + "block a ; return 1 ; node word 0", "graph blocks 0"), (head + "pin 0 a 1 ; " + body, "placement 0"),
+            (head + "block a ; return 1 ; node word 0", "graph blocks 0"),
+            (head + "pin 0 a 1 ; " + body, "placement 0"),
             ("unit 1 ; counts 1 2 ; " + body, "profile -"), (head + "pin 1 a 0 ; " + body, "placement 1"),
             (head + "block a ; return 0 ; node div 1 2 ; node word 0 ; node given 0", "unsound 0"),
             (head + "block a ; return 0 ; node word 70000", "graph nodes 0"),
@@ -318,7 +331,8 @@ class Desks(unittest.TestCase):
     def test_refused_by_hand(self):
         for line, answer in (
             ("put_node 10 word 1", "node 10"), ("put_node 99999 word 1", "node 99999"),
-            ("put_node 8 word 65536", "graph nodes 8"), ("put_node 8 given 4", "graph nodes 8"), ("put_node 8 add 8 8", "graph rings 8"),
+            ("put_node 8 word 65536", "graph nodes 8"), ("put_node 8 given 4", "graph nodes 8"),
+            ("put_node 8 add 8 8", "graph rings 8"),
             ("put_node 9 phi nowhere 1", "graph nodes 9"), ("put_node 9 phi head", "graph nodes 9"),
             ("add_node load 2 0 top 0", "graph nodes 10"), ("add_node load 1 0 top 5", "graph nodes 10"),
             ("add_deed nowhere - out 0", "block nowhere"), ("add_deed left 3 out 0", "place"),

@@ -132,10 +132,13 @@ METHODS = {
     "copied": ("(self)", {}),
 }
 DESK_METHODS = {
-    "say": ("(self, line)", {"line": "text"}), "unit": ("(self, name='first')", {"name": "first"}), "at": ("(self)", {}),
+    "say": ("(self, line)", {"line": "text"}), "unit": ("(self, name='first')", {"name": "first"}),
+    "at": ("(self)", {}),
 }
-LATER = ("undo", "redo", "graph", "profile", "pins", "hold", "ranges", "placement", "cost", "run", "classes", "registers",
-         "deeds", "log", "busy", "copied")
+LATER = (
+    "undo", "redo", "graph", "profile", "pins", "hold", "ranges", "placement", "cost", "run", "classes", "registers",
+    "deeds", "log", "busy", "copied",
+)
 
 
 def some_unit():

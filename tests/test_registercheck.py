@@ -133,7 +133,8 @@ class RegisterChecks(unittest.TestCase):
                 if not isinstance(thing, tuple):
                     self.assertEqual(ask(thing), ("BadPaper", None))
         first = live_nodes(STEADY)[0]
-        self.assertEqual(refusal(need_registers, STEADY, EARLY, ((bool(first), 0), *right[1:])), ("BadPaper", ("row", 0)))
+        self.assertEqual(refusal(need_registers, STEADY, EARLY, ((bool(first), 0), *right[1:])),
+                         ("BadPaper", ("row", 0)))
 
     def test_right_is_false_alone(self):
         for right in (True, None, 0, "", (), [], 1):

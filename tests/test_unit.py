@@ -3,7 +3,7 @@ import random
 import unittest
 
 from growing import grown
-from keeping import ByDeeds, Refused, some_deed
+from keeping import TAKEN, ByDeeds, Refused, some_deed
 from making import BARE, LEAST, LOOPED, STEADY, TALL
 from odd import odd_things
 from running import some_words
@@ -506,7 +506,8 @@ class Units(unittest.TestCase):
         self.assertEqual(unit.hold(), 3)
         # What isn't a deed's name, or takes fewer or more: each at its turn, behind those ahead.
         good = ("set_hold", 4)
-        for wrong in ((), ("many", ()), ("many", (good,)), ("undo",), ("redo",), ("graph",), ("fold", 1), ("tidy", None),
+        for wrong in ((), ("many", ()), ("many", (good,)), ("undo",), ("redo",), ("graph",), ("fold", 1),
+                      ("tidy", None),
                       ("merge", ()), ("set_hold",), ("set_hold", 1, 2), ("put_node", 0), ("put_node", 0, None, 0),
                       ("add_node",), ("add_deed", "top"), ("add_deed", "top", ("out", 0), 0, 0), ("drop_deed", "top"),
                       ("set_end", "top"), ("split_edge", "top", "head"), ("set_count", "top"), ("pin", 0), ("unpin",),
@@ -520,6 +521,19 @@ class Units(unittest.TestCase):
                 # What is refused ahead of it is told.
                 self.assertEqual(refusal(unit.many, (("put_node", 77, None), wrong)), ("NoNode", 77))
                 self.assertEqual(unit.log()[-1], ("refused", 2, 0))
+
+    def test_many_with_as_many_things_as_each_takes(self):
+        for word, counts in TAKEN.items():
+            for many in range(5):
+                unit = Unit(STEADY)
+                fault = refusal(unit.many, (("set_hold", 4), (word,) + (None,) * many))
+                if many not in counts:
+                    self.assertEqual(fault, ("OutOfPlace",))
+                elif word not in ("merge", "fold", "tidy"):
+                    # It is what it would be by itself.
+                    self.assertEqual(fault, refusal(getattr(Unit(STEADY), word), *(None,) * many))
+                    self.assertIsNotNone(fault)
+                self.assertEqual(len(unit), int(fault is None))
 
     def test_many_deed_by_deed(self):
         # Each is done on what those ahead have made; a graph between that isn't sound is refused.
