@@ -12,6 +12,7 @@ from seaplace.desk import Desk
 from seaplace.errors import BadGraph, GraphError, MissError, UnsoundError
 from seaplace.graphs import is_graph
 from seaplace.graphtext import read_graph
+from seaplace.runpaper import run_paper
 from seaplace.unit import Unit
 
 INTERFACE = {
@@ -186,6 +187,28 @@ class Everywhere(unittest.TestCase):
             self.assertEqual(function(*things), function(**named))
             # In another order, too.
             self.assertEqual(function(*things), function(**{name: named[name] for name in reversed(names)}))
+
+    def test_with_what_may_be_left_out_left_out(self):
+        # Left out, or handed in as it is told in the interface, it is the same.
+        left = 0
+        for function, names, things in CALLS + BESIDE:
+            named = dict(zip(names, things))
+            for name, told in inspect.signature(function).parameters.items():
+                if told.default is not inspect.Parameter.empty:
+                    without = {key: named[key] for key in named if key != name}
+                    if name in named and function.__name__ == "check_run":
+                        without["paper"] = run_paper(STEADY)
+                    self.assertEqual(function(**without), function(**{**without, name: told.default}))
+                    left += 1
+        self.assertGreater(left, 40)
+        for name, (_, things) in METHODS.items():
+            for key, told in inspect.signature(getattr(Unit, name)).parameters.items():
+                if key != "self" and told.default is not inspect.Parameter.empty:
+                    without = {one: things[one] for one in things if one != key}
+                    one, other = some_unit(), some_unit()
+                    answer = getattr(one, name)(**without)
+                    self.assertEqual(getattr(other, name)(**{**without, key: told.default}), answer)
+                    self.assertEqual(told_of(one), told_of(other))
 
     def test_nothing_is_changed(self):
         for function, things, named in self.each_call():

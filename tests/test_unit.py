@@ -130,7 +130,7 @@ class Units(unittest.TestCase):
                 self.assertEqual(len(unit), len(past))
                 self.assertEqual(unit.log(), log)
                 self.assertIs(unit.busy(), False)
-                if step % 7 == 0:
+                if step % 4 == 0:
                     self.as_one_made_anew(unit)
         for word in ("put_node", "add_node", "add_deed", "drop_deed", "set_end", "split_edge", "set_count", "set_hold",
                      "pin", "unpin", "merge", "fold", "tidy", "many"):
