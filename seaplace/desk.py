@@ -32,6 +32,9 @@ def do_deeds(unit, deeds):
     return DONE
 
 
+# Each of these answers one kind of line, by the desk and the unit that it is at, also where it needs but one of them.
+
+
 def undo(desk, unit):
     unit.undo()
     return DONE
@@ -103,7 +106,6 @@ def units(desk, unit):
     return ", ".join(sorted(desk.kept))
 
 
-# How each question is answered, by the desk, the unit that it is at, and what else is told.
 ANSWERS = {
     "undo": undo, "redo": redo, "copy": copy_to, "use": use, "text": text, "cost": cost, "registers": registers,
     "many": many, "ranges": ranges, "placement": placement, "early": early, "run": run, "same": same, "units": units,
